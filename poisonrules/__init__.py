@@ -1,0 +1,1 @@
+"""Rules over words with undefined and poisoned worths, shown at every width."""
