@@ -15,8 +15,7 @@ COMPARISONS = ("same", "below", "under")
 TEST_COMPARISONS = ("same", "unlike", "below", "under")
 TEST_HEADS = ("const", "num", "and", "or", "xor", "not")
 
-# How many terms each kind of term has as its parts.
-PARTS = {
+PART_COUNTS = {
     "look": 0, "const": 0, "num": 0,
     "sum": 2, "less": 2, "twice": 1,
     "and": 2, "or": 2, "xor": 2, "not": 1,
@@ -49,15 +48,15 @@ def has_shape(thing):
     if not isinstance(thing, tuple) or len(thing) == 0:
         return False
     head = thing[0]
-    if not isinstance(head, str) or head not in PARTS:
+    if not isinstance(head, str) or head not in PART_COUNTS:
         return False
     if head in LEAVES:
         return len(thing) == 2 and is_leaf_word(head, thing[1])
     if head == "choice":
         return len(thing) == 4 and is_triple(thing[1], COMPARISONS)
     if head in FLAGGED:
-        return len(thing) == 2 + PARTS[head] and thing[1] in FLAGS
-    return len(thing) == 1 + PARTS[head]
+        return len(thing) == 2 + PART_COUNTS[head] and thing[1] in FLAGS
+    return len(thing) == 1 + PART_COUNTS[head]
 
 
 def is_leaf_word(head, thing):

@@ -1,10 +1,9 @@
 """Terms as texts."""
 
 from poisonrules.errors import NoText
-from poisonrules.terms import COMPARISONS, FLAGGED, FLAGS, LEAVES, PARTS, is_name, things_of
+from poisonrules.terms import COMPARISONS, FLAGGED, FLAGS, PART_COUNTS, is_name, things_of
 
-# So many terms within one another are read at most.
-DEEPEST = 100
+DEEPEST_READ = 100
 
 
 def show_term(term):
@@ -48,12 +47,12 @@ def terms_of(words):
     # From the right, as each word's parts are ready then: so no depth needs calls within calls.
     ready = []
     for head in reversed(heads_of(words)):
-        many = PARTS[head[0]]
+        many = PART_COUNTS[head[0]]
         if len(ready) < many:
             raise NoText("a part is left out")
         parts = [ready.pop() for _ in range(many)]
         deep = 1 + max([part[0] for part in parts], default=0)
-        if deep > DEEPEST:
+        if deep > DEEPEST_READ:
             raise NoText("too many terms within one another")
         ready.append((deep, joined(head, [part[1] for part in parts])))
     return [one[1] for one in reversed(ready)]
@@ -99,7 +98,8 @@ def head_of(word):
     # A dot stands just where flags do.
     if first in FLAGGED and flags in FLAGS and (dot == "") == (flags == ""):
         return (first, flags)
-    if word in PARTS and word not in LEAVES and word not in FLAGGED:
+    # What is left of these words has no flags: look, const and num, as words, are names.
+    if word in PART_COUNTS:
         return (word,)
     raise NoText("a word is none of a term's")
 
