@@ -1,4 +1,4 @@
-"""All tuples of given things, and with them all worths."""
+"""All tuples of given things, and with them all worths; whether things rise."""
 
 from poisonrules.kinds import ANY, BAD
 
@@ -19,3 +19,8 @@ def all_numbers(many, width):
 def all_worths(many, width):
     """All tuples of so many worths of inputs, rising."""
     return tuples_of([[BAD, ANY] + list(range(1 << width))] * many)
+
+
+def is_rising(things):
+    """Whether things that can be compared rise, each once."""
+    return all([one < other for one, other in zip(things, things[1:])])

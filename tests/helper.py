@@ -220,3 +220,392 @@ def wrong_worths(old, new, cond, width):
         if unlet:
             found[told] = unlet
     return found
+
+
+STATED = ("num", "sum", "less", "twice", "froze", "choice")
+DRAWN = ("look", "const", "froze")
+SERIAL_TWO_PARTS = ("sum", "less", "and", "or", "xor")
+
+
+def shared_out(chance, room, many):
+    """So many numbers from 1 on that together are room."""
+    sizes = [1] * many
+    for _ in range(room - many):
+        sizes[chance.randrange(many)] += 1
+    return sizes
+
+
+def serial_term(chance, room, inputs=("a", "b"), consts=("c",)):
+    """A serial term of just so many things."""
+    if room == 1:
+        return chance_leaf(chance, inputs, consts)
+    if room >= 5 and chance.randrange(3) == 0:
+        parts = [serial_term(chance, size, inputs, consts) for size in shared_out(chance, room - 1, 4)]
+        return ("choice", (chance.choice(("same", "below", "under")), *parts[:2]), *parts[2:])
+    one = room == 2 or chance.randrange(2) == 0
+    head = chance.choice(ONE_PART if one else SERIAL_TWO_PARTS)
+    parts = [serial_term(chance, size, inputs, consts) for size in shared_out(chance, room - 1, 1 if one else 2)]
+    flags = (chance.choice(("", "u", "s", "us")),) if head in FLAGGED else ()
+    return (head, *flags, *parts)
+
+
+def serial_rules(seed, many, room=5, tests=True, inputs=2):
+    """(old, new, cond) of serial rules by chance, of at most so many things on a side; so many times."""
+    chance = random.Random(seed)
+    found = []
+    for _ in range(many):
+        looks = ("a", "b")[:chance.randrange(inputs + 1)]
+        consts = ("c", "d")[:chance.randrange(min(2, 3 - len(looks)) + 1)]
+        old = serial_term(chance, chance.randrange(2, room + 1), looks, consts)
+        names = names_of(old, "const")
+        new = serial_term(chance, chance.randrange(1, room + 1), names_of(old, "look"), names)
+        if chance.randrange(6) == 0:
+            new = old
+        many_tests = chance.choice((0, 1, 2, 3)) if tests and names else 0
+        found.append((old, new, tuple(chance_test(chance, names) for _ in range(many_tests))))
+    return found
+
+
+def slow_starts(term):
+    """All states with which term may begin, as point 12 has it."""
+    rows = {"num": None, "sum": (0,), "less": (0,), "twice": (0,), "froze": (0, 1), "choice": (0, 6)}
+    return list(itertools.product(*[rows[one[0]] or (one[1],) for one in within(term) if one[0] in STATED]))
+
+
+def slow_after(term, state, bits):
+    """(bit, state behind), as point 12 has it: by a walk down the term that counts numbers and bits."""
+    numbers, drawn_bits, behind = list(state), list(bits), {}
+
+    def go(one):
+        if one[0] in ("look", "const"):
+            return drawn_bits.pop(0)
+        own = drawn_bits.pop(0) if one[0] == "froze" else None
+        at = len(state) - len(numbers)
+        number = numbers.pop(0) if one[0] in STATED else None
+        came = [go(part) for part in parts(one)]
+        if number is None:
+            return by_bits(one[0], came[0], came[-1], 1)
+        bit, behind[at] = slow_bit(one[0], number, came, own)
+        return bit
+
+    bit = go(term)
+    return bit, tuple(behind[at] for at in sorted(behind))
+
+
+def slow_bit(head, number, came, own):
+    if head == "num":
+        return number % 2, number // 2
+    if head == "froze":
+        return own if number == 1 else came[0], number
+    if head == "choice":
+        read = number // 2 % 3 if came[0] == came[1] else 1 + (came[0] > came[1])
+        return came[3 if number >= 6 else 2], number // 6 * 6 + 2 * read + (came[0] != came[1])
+    carried = number % 2
+    if head == "twice":
+        return carried, 2 * carried + came[0]
+    reckoned = came[0] + came[1] + carried if head == "sum" else came[0] - came[1] - carried
+    return reckoned % 2, 2 * carried + (reckoned not in (0, 1))
+
+
+def slow_told(r, number):
+    """Whether a test or choice with this 2r + d, or 6g + 2r + d, holds."""
+    read, last = number // 2 % 3, number % 2
+    return {"same": read == 0, "unlike": read != 0, "below": read == 1, "under": (read, last) in ((1, 0), (2, 1))}[r]
+
+
+def slow_ended(term, state, bad):
+    """How a state ends, as point 13 has it."""
+    numbers, amiss = list(state), []
+
+    def go(one):
+        number = numbers.pop(0) if one[0] in STATED else None
+        came = [go(part) for part in parts(one)]
+        if one[0] == "look":
+            return one[1] in bad
+        if one[0] == "froze":
+            amiss.append(came[0] != (number == 1))
+            return False
+        if one[0] == "choice":
+            poisoned = came[0] or came[1]
+            amiss.append(number >= 6 if poisoned else (number < 6) != slow_told(one[1][0], number))
+            return poisoned or came[3 if number >= 6 else 2]
+        flags = one[1] if one[0] in FLAGGED else ""
+        return any(came) or ("u" in flags and number % 2 == 1) or ("s" in flags and number in (1, 2))
+
+    poisoned = go(term)
+    return "none" if any(amiss) else "bad" if poisoned else "number"
+
+
+def slow_letters(old, new, standing):
+    """All letters, as point 14 has it."""
+    told = dict(zip(names_of(old, "look"), standing))
+    mixed = [one for one in within(new) if one[0] == "froze" or one[0] == "look" and told[one[1]] == 1]
+    many = list(standing).count(0) + len(names_of(old, "const")) + len(mixed)
+    return list(itertools.product((0, 1), repeat=many))
+
+
+def letter_parts(old, standing, letter):
+    """(dict of numbers' bits, dict of constants' bits, the bits that are mixed in) of a letter."""
+    left = list(letter)
+    numbers = {name: left.pop(0) for name, told in zip(names_of(old, "look"), standing) if told == 0}
+    return numbers, {name: left.pop(0) for name in names_of(old, "const")}, left
+
+
+def slow_beginnings(old, new, cond):
+    tested = sum(((0, *slow_starts(one)[0], *slow_starts(other)[0]) for _, one, other in cond), ())
+    olds = tuple((1, *state) for state in slow_starts(old))
+    return [(tested + state, olds) for state in slow_starts(new)]
+
+
+def many_stated(term):
+    return len([one for one in within(term) if one[0] in STATED])
+
+
+def slow_tests_behind(numbers, cond, consts):
+    """The numbers of tests behind a bit of each constant; numbers is a list, from which they are taken."""
+    found = []
+    for _, *sides in cond:
+        compared, behind, bits = numbers.pop(0), [], []
+        for side in sides:
+            state = [numbers.pop(0) for _ in range(many_stated(side))]
+            bit, state = slow_after(side, state, [consts[one[1]] for one in within(side) if one[0] == "const"])
+            bits.append(bit)
+            behind.extend(state)
+        read = compared // 2 if bits[0] == bits[1] else 1 + (bits[0] > bits[1])
+        found.extend([2 * read + (bits[0] != bits[1]), *behind])
+    return tuple(found)
+
+
+def slow_come_by(old, new, cond, standing, pair, letter):
+    """The pair behind a letter, as point 14 has it."""
+    told = dict(zip(names_of(old, "look"), standing))
+    numbers, consts, mixed = letter_parts(old, standing, letter)
+    left = list(pair[0])
+    tested = slow_tests_behind(left, cond, consts)
+
+    def bits_of(term, wild):
+        for one in within(term):
+            if one[0] == "froze" or one[0] == "look" and told[one[1]] == 1:
+                yield wild(one)
+            elif one[0] in ("look", "const"):
+                yield (numbers.get(one[1], 0),) if one[0] == "look" else (consts[one[1]],)
+
+    new_bits = [row[0] for row in bits_of(new, lambda _: (mixed.pop(0),))]
+    new_bit, state = slow_after(new, left, new_bits)
+    found = set()
+    for mark, *old_state in pair[1]:
+        for ways in itertools.product(*bits_of(old, lambda _: (0, 1))):
+            bit, behind = slow_after(old, old_state, ways)
+            found.add((int(mark == 1 and bit == new_bit), *behind))
+    return tested + state, tuple(sorted(found))
+
+
+def slow_stands(old, new, cond, standing, pair):
+    """Whether a pair stands, as point 14 has it."""
+    bad = [name for name, told in zip(names_of(old, "look"), standing) if told == 2]
+    numbers = list(pair[0])
+    for r, one, other in cond:
+        if not slow_told(r, numbers.pop(0)):
+            return True
+        del numbers[:many_stated(one) + many_stated(other)]
+    end = slow_ended(new, numbers, bad)
+    ends = [(mark, slow_ended(old, state, bad)) for mark, *state in pair[1]]
+    return end == "none" or any(one == "bad" for _, one in ends) or (end == "number" and (1, "number") in ends)
+
+
+def all_standings(old):
+    return list(itertools.product((0, 1, 2), repeat=len(names_of(old, "look"))))
+
+
+def slow_layers(old, new, cond, standing, limit):
+    """Layer by layer {pair: its least letters} of all pairs behind a letter at least; None where they pass limit."""
+    letters = slow_letters(old, new, standing)
+    found, layers = set(), []
+    layer = {pair: () for pair in slow_beginnings(old, new, cond)}
+    while layer:
+        behind = {}
+        for pair, ahead in layer.items():
+            for letter in letters:
+                one = slow_come_by(old, new, cond, standing, pair, letter)
+                if one not in found:
+                    behind[one] = min(behind.get(one, (*ahead, letter)), (*ahead, letter))
+        found |= set(behind)
+        if len(found) > limit:
+            return None
+        layers.append(behind)
+        layer = behind
+    return layers[:-1]
+
+
+def slow_decide(old, new, cond, limit=60):
+    """(what decide tells, the most pairs that come by some standing), as point 15 has it; None where they pass limit."""
+    against, paper, most = [], [], 0
+    for standing in all_standings(old):
+        layers = slow_layers(old, new, cond, standing, limit)
+        if layers is None:
+            return None
+        most = max(most, sum(len(layer) for layer in layers))
+        against += [(len(letters), standing, letters) for layer in layers for pair, letters in layer.items()
+                    if not slow_stands(old, new, cond, standing, pair)]
+        paper.append(tuple(sorted(pair for layer in layers for pair in layer)))
+    return (("wrong", *min(against)[1:]) if against else ("right", tuple(paper))), most
+
+
+def slow_is_kept(old, new, cond, standing, kept):
+    """Whether well-formed pairs are a kept set, as point 15 has it."""
+    if not all(slow_stands(old, new, cond, standing, pair) for pair in kept):
+        return False
+    for pair in [*slow_beginnings(old, new, cond), *kept]:
+        for letter in slow_letters(old, new, standing):
+            news, come = slow_come_by(old, new, cond, standing, pair, letter)
+            if not any(one == news and set(olds) <= set(come) for one, olds in kept):
+                return False
+    return True
+
+
+def slow_against(old, new, cond, standing, letters):
+    """Whether well-formed letters lead to a pair that does not stand."""
+    pairs = slow_beginnings(old, new, cond)
+    for letter in letters:
+        pairs = [slow_come_by(old, new, cond, standing, pair, letter) for pair in pairs]
+    return not all(slow_stands(old, new, cond, standing, pair) for pair in pairs)
+
+
+def put_at(thing, path, other):
+    """thing, of tuples, with other at a path of places."""
+    if not path:
+        return other
+    return thing[:path[0]] + (put_at(thing[path[0]], path[1:], other),) + thing[path[0] + 1:]
+
+
+def paths_of(thing, path=()):
+    """All paths in a thing of tuples, that of the whole too."""
+    yield path
+    if isinstance(thing, tuple):
+        for at, one in enumerate(thing):
+            yield from paths_of(one, (*path, at))
+
+
+def at_path(thing, path):
+    for at in path:
+        thing = thing[at]
+    return thing
+
+
+def spoilt(thing, chance, many):
+    """Things of other kinds that are like thing but in one place, which must not count as the same."""
+    paths = list(paths_of(thing))
+    for path in [*paths[:12], *chance.sample(paths, min(many, len(paths)))]:
+        one = at_path(thing, path)
+        others = [None, {}, [], "", "0"]
+        if isinstance(one, bool):
+            others += [int(one), [one], (one,)]
+        elif isinstance(one, int):
+            others += [[one], (one,), str(one), one + 100, -one - 100, {one: one}] + ([bool(one)] if one in (0, 1) else [])
+        if isinstance(one, tuple):
+            others += [list(one), (one,), one + (None,), dict(enumerate(one))]
+        for other in others:
+            yield put_at(thing, path, other)
+
+
+def const_bits(old, standing, letter):
+    """The constants' bits of a letter, as the constants rise."""
+    return tuple(letter_parts(old, standing, letter)[1].values())
+
+
+def slow_ways(old, new, standing, pair, bits):
+    """All pairs behind one, without tests, by the letters that have these bits of constants."""
+    return {slow_come_by(old, new, (), standing, pair, letter) for letter in slow_letters(old, new, standing)
+            if const_bits(old, standing, letter) == bits}
+
+
+def all_bits(old):
+    """All tuples of bits of the constants, rising."""
+    return list(itertools.product((0, 1), repeat=len(names_of(old, "const"))))
+
+
+def slow_sets(old, new, limit):
+    """How many unlike sets of (standing, pair) come by bits of constants, as point 17 has it; None past limit."""
+    known, found = {}, set()
+    waiting = [frozenset((standing, pair) for standing in all_standings(old)
+                         for pair in slow_beginnings(old, new, ()))]
+    while waiting:
+        one = waiting.pop()
+        for bits in all_bits(old):
+            behind = set()
+            for standing, pair in one:
+                if (standing, pair, bits) not in known:
+                    known[standing, pair, bits] = slow_ways(old, new, standing, pair, bits)
+                behind |= {(standing, other) for other in known[standing, pair, bits]}
+            if frozenset(behind) not in found:
+                found.add(frozenset(behind))
+                waiting.append(frozenset(behind))
+        if len(found) > limit:
+            return None
+    return len(found)
+
+
+def slow_weakest_holds(old, new, machine, paper):
+    """Whether a well-formed machine and paper are as point 17 has them."""
+    return slow_keeps_hold(old, new, machine, paper[0]) and slow_shows_hold(old, new, machine, paper[1])
+
+
+def slow_keeps_hold(old, new, machine, keeps):
+    firsts = [(0, standing, *pair) for standing in all_standings(old) for pair in slow_beginnings(old, new, ())]
+    for room, standing, *pair in [*firsts, *keeps]:
+        if machine[room][0] and not slow_stands(old, new, (), standing, pair):
+            return False
+        for at, bits in enumerate(all_bits(old)):
+            for news, come in slow_ways(old, new, standing, pair, bits):
+                if not any(one[:3] == (machine[room][1][at], standing, news) and set(one[3]) <= set(come)
+                           for one in keeps):
+                    return False
+    return True
+
+
+def slow_shows_hold(old, new, machine, shows):
+    refuted = {room for room, standing, *pair in shows if not slow_stands(old, new, (), standing, pair)}
+    if not all(let or room in refuted for room, (let, _) in enumerate(machine) if room > 0):
+        return False
+    for room, standing, news, olds in shows:
+        for before, (_, nexts) in enumerate(machine):
+            for bits, behind in zip(all_bits(old), nexts):
+                if behind != room:
+                    continue
+                froms = slow_beginnings(old, new, ()) if before == 0 else [
+                    one[2:] for one in shows if one[:2] == (before, standing)]
+                if not any(one == news and set(come) <= set(olds) for pair in froms
+                           for one, come in slow_ways(old, new, standing, pair, bits)):
+                    return False
+    return True
+
+
+def plain_lets(machine, numbers, width):
+    """Whether a machine lets numbers of constants: read as rows of bits."""
+    room = 0
+    for place in range(width):
+        at = int("0" + "".join(str(number // 2 ** place % 2) for number in numbers), 2)
+        room = machine[room][1][at]
+    return machine[room][0]
+
+
+def plain_least(machine):
+    """The least machine, by telling rooms apart round by round."""
+    rooms = [0]
+    for room in rooms:
+        rooms += sorted(set(machine[room][1]) - set(rooms))
+    kinds = {room: (room == 0, machine[room][0]) for room in rooms}
+    while True:
+        finer = {room: (kinds[room], *[kinds[behind] for behind in machine[room][1]]) for room in rooms}
+        numbers = {kind: at for at, kind in enumerate(dict.fromkeys(finer.values()))}
+        finer = {room: numbers[finer[room]] for room in rooms}
+        if len(set(finer.values())) == len(set(kinds.values())):
+            break
+        kinds = finer
+    order = [0]
+    for room in order:
+        for behind in machine[room][1]:
+            if kinds[behind] not in [kinds[one] for one in order]:
+                order.append(behind)
+    numbers = {kinds[room]: at for at, room in enumerate(order)}
+    return tuple((machine[room][0], tuple(numbers[kinds[behind]] for behind in machine[room][1])) for room in order)

@@ -23,6 +23,9 @@ BARRED_WORDS = re.compile(
 STATEMENTS = (
     ast.Assign, ast.AugAssign, ast.If, ast.While, ast.For, ast.Return, ast.Break, ast.Continue, ast.Pass, ast.Raise,
     ast.Assert, ast.Delete, ast.Try, ast.Expr, ast.FunctionDef, ast.ClassDef, ast.ImportFrom)
+BARRED_ATTRIBUTES = set(
+    "items keys values pop update append clear extend insert remove reverse setdefault sort args encode decode hex"
+    " fromhex format".split())
 LIBRARY = {"heapq", "math", "itertools", "collections"}
 
 
@@ -41,11 +44,18 @@ def nodes(kind):
             for path, _, tree in parsed() for node in ast.walk(tree) if isinstance(node, kind)]
 
 
-def is_plain_value(node):
+def assigned_attributes(node):
+    """The names of all attributes that a class's methods assign."""
+    return {one.attr for one in ast.walk(node) if isinstance(one, ast.Attribute) and isinstance(one.ctx, ast.Store)}
+
+
+def is_plain_value(node, functions=()):
     if isinstance(node, (ast.Tuple, ast.List)):
         return all(is_plain_value(one) for one in node.elts)
     if isinstance(node, ast.Dict):
-        return all(is_plain_value(one) for one in (*node.keys, *node.values))
+        # A table may have functions that stand above it.
+        return all(is_plain_value(one) or isinstance(one, ast.Name) and one.id in functions
+                   for one in (*node.keys, *node.values))
     if isinstance(node, ast.UnaryOp):
         return isinstance(node.op, ast.USub) and isinstance(node.operand, ast.Constant)
     return isinstance(node, ast.Constant)
@@ -88,7 +98,9 @@ class Statements(unittest.TestCase):
                     self.assertIsInstance(node.value.value, str, where)
                 if isinstance(node, ast.Assign):
                     self.assertEqual([target.__class__ for target in node.targets], [ast.Name], where)
-                    self.assertTrue(is_plain_value(node.value), where)
+                    above = {one.name for one in tree.body if isinstance(one, ast.FunctionDef)
+                             and one.lineno < node.lineno}
+                    self.assertTrue(is_plain_value(node.value, above), where)
 
     def test_imports_name_the_file_that_defines(self):
         defined = {path.stem: {getattr(node, "name", None) or node.targets[0].id for node in tree.body
@@ -103,6 +115,12 @@ class Statements(unittest.TestCase):
             for one in node.names:
                 self.assertIsNone(one.asname, where)
                 self.assertIn(one.name, defined[file], where)
+
+    def test_all_that_is_imported_is_used(self):
+        for path, _, tree in parsed():
+            imported = {one.name for node in tree.body if isinstance(node, ast.ImportFrom) for one in node.names}
+            used = {node.id for node in ast.walk(tree) if isinstance(node, ast.Name)}
+            self.assertEqual(imported - used, set(), path.name)
 
     def test_only_allowed_statements(self):
         for where, node in nodes(ast.stmt):
@@ -122,7 +140,47 @@ class Statements(unittest.TestCase):
             self.assertIn(node.type.id, own, where)
 
 
+class Classes(unittest.TestCase):
+    def test_no_name_is_a_method_and_an_attribute(self):
+        for where, node in nodes(ast.ClassDef):
+            methods = {one.name for one in node.body if isinstance(one, ast.FunctionDef)}
+            self.assertFalse(methods & assigned_attributes(node), where)
+
+    def test_attributes_have_names_that_they_may_have(self):
+        for where, node in nodes(ast.ClassDef):
+            for name in assigned_attributes(node):
+                self.assertNotIn(name, BARRED_ATTRIBUTES, where)
+                self.assertFalse(any(hasattr(one, name) for one in (0, b"", set())), (where, name))
+
+    def test_only_allowed_methods_with_underscores(self):
+        for where, node in nodes(ast.ClassDef):
+            for one in node.body:
+                if isinstance(one, ast.FunctionDef) and one.name.startswith("__"):
+                    self.assertIn(one.name, ("__init__", "__eq__", "__repr__", "__str__", "__len__"), where)
+
+
 class Expressions(unittest.TestCase):
+    def test_stars_in_calls_stand_before_names(self):
+        for where, node in nodes(ast.Call):
+            for one in node.args:
+                if isinstance(one, ast.Starred):
+                    self.assertIsInstance(one.value, (ast.Name, ast.Attribute), where)
+
+    def test_no_star_in_an_index(self):
+        for where, node in nodes(ast.Subscript):
+            self.assertFalse([one for one in ast.walk(node.slice) if isinstance(one, ast.Starred)], where)
+
+    def test_what_is_iterated_at_once_is_not_kept(self):
+        for where, node in nodes((ast.Assign, ast.Return)):
+            if isinstance(node.value, ast.Call) and isinstance(node.value.func, ast.Name):
+                self.assertNotIn(node.value.func.id, ("zip", "enumerate", "reversed", "range"), where)
+            if isinstance(node.value, ast.Call) and isinstance(node.value.func, ast.Attribute):
+                self.assertNotIn(node.value.func.attr, ("items", "keys", "values"), where)
+
+    def test_shifts_and_powers(self):
+        for where, node in nodes(ast.Pow):
+            self.fail(where)
+
     def test_names(self):
         for where, node in nodes((ast.Name, ast.arg, ast.FunctionDef, ast.ClassDef, ast.Attribute)):
             name = [getattr(node, field) for field in ("id", "arg", "name", "attr") if hasattr(node, field)][0]
