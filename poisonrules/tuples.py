@@ -1,6 +1,4 @@
-"""All tuples of given things, and with them all worths; whether things rise."""
-
-from poisonrules.kinds import ANY, BAD
+"""Tuples of given things, and whether things rise."""
 
 
 def tuples_of(rows):
@@ -9,16 +7,6 @@ def tuples_of(rows):
     for row in rows:
         found = [(*one, thing) for one in found for thing in row]
     return found
-
-
-def all_numbers(many, width):
-    """All tuples of so many numbers, rising."""
-    return tuples_of([list(range(1 << width))] * many)
-
-
-def all_worths(many, width):
-    """All tuples of so many worths of inputs, rising."""
-    return tuples_of([[BAD, ANY] + list(range(1 << width))] * many)
 
 
 def is_rising(things):

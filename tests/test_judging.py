@@ -1,15 +1,88 @@
 """Whether a rule is right at a width, by all words (points 2 and 11)."""
 
 import inspect
+import itertools
+import random
+import re
 import unittest
 
 from poisonrules import judging
 from poisonrules.judgechecks import judge_holds
 from poisonrules.judging import judged
+from poisonrules.outcomes import is_let, outcomes
 from poisonrules.rules import Rule
 from poisonrules.ruletexts import read_rule
 
-from helper import ANY, BAD, FAULT, assert_keeps, chance_rules, ways_to_draw, wrong_worths
+from helper import (
+    ANY, BAD, FAULT, ONE_PART, FLAGGED, TWO_PARTS, assert_keeps, chance_leaf, chance_rules, chance_test, compares, names_of,
+    shared_out, ways_to_draw, within, wrong_worths)
+
+
+def plainly_judged(rule, width):
+    """What judged tells, by going through all worths with outcomes and is_let."""
+    consts, inputs = names_of(rule.old, "const"), names_of(rule.old, "look")
+    for numbers in itertools.product(range(2 ** width), repeat=len(consts)):
+        named = dict(zip(consts, numbers))
+        if not all(compares(r, *[plain_number(side, named, width) for side in sides], width) for r, *sides in rule.cond):
+            continue
+        for worths in itertools.product(range(BAD, 2 ** width), repeat=len(inputs)):
+            looked = dict(zip(inputs, worths))
+            old, new = [outcomes(side, tuple(looked[name] for name in names_of(side, "look")),
+                                 consts=tuple(named[name] for name in names_of(side, "const")), width=width)
+                        for side in (rule.old, rule.new)]
+            if not is_let(new, old):
+                return numbers + worths, min(one for one in new if not is_let((one,), old))
+    return None
+
+
+def plain_number(side, named, width):
+    """The number of a term of a test."""
+    told = outcomes(side, (), consts=tuple(named[name] for name in names_of(side, "const")), width=width)
+    return told[0]
+
+
+def drawn_term(chance, room, inputs, consts):
+    """A term of all words, of just so many things."""
+    if room == 1:
+        return chance_leaf(chance, inputs, consts)
+    if room >= 5 and chance.randrange(3) == 0:
+        parts = [drawn_term(chance, size, inputs, consts) for size in shared_out(chance, room - 1, 4)]
+        return ("choice", (chance.choice(("same", "below", "under")), *parts[:2]), *parts[2:])
+    many = 1 if room == 2 or chance.randrange(3) == 0 else 2
+    head = chance.choice(ONE_PART if many == 1 else TWO_PARTS)
+    flags = (chance.choice(("", "u", "s", "us")),) if head in FLAGGED else ()
+    return (head, *flags, *[drawn_term(chance, size, inputs, consts) for size in shared_out(chance, room - 1, many)])
+
+
+def turned(chance, term):
+    """A term that comes to the same, or nearly so: parts in another order, less seldom with one more flag."""
+    if term[0] in ("look", "const", "num"):
+        return term
+    if term[0] == "choice":
+        (r, t, v), p, q = term[1:]
+        return ("choice", (r, turned(chance, t), turned(chance, v)), turned(chance, p), turned(chance, q))
+    parts = [turned(chance, one) for one in term[1:] if isinstance(one, tuple)]
+    if term[0] in ("and", "or", "xor", "times", "sum"):
+        parts = parts[::-1]
+    flags = (term[1],) if term[0] in FLAGGED else ()
+    if flags and chance.randrange(4) == 0:
+        flags = (chance.choice(("", "u", "s", "us")),)
+    return (term[0], *flags, *parts)
+
+
+def drawn_rules(seed, many, room):
+    """So many (Rule, the greatest width within the bounds) of terms of all words, right ones among them."""
+    chance = random.Random(seed)
+    for _ in range(many):
+        inputs, consts = chance.choice((("a", ""), ("ab", ""), ("abc", ""), ("a", "c"), ("ab", "c"), ("a", "cd"), ("", "cd"),
+                                        ("", "c"), ("c", "c")))
+        old = drawn_term(chance, chance.randrange(2, room + 1), inputs, consts)
+        names, looks = names_of(old, "const"), names_of(old, "look")
+        new = turned(chance, old) if chance.randrange(2) else drawn_term(chance, chance.randrange(1, room + 1), looks, names)
+        cond = tuple(chance_test(chance, names) for _ in range(chance.choice((0, 0, 1, 2, 3)) if names else 0))
+        widest = max(width for width in (1, 2, 3, 4)
+                     if 2 ** (width * len(names)) * (2 ** width + 2) ** len(looks) <= 2000)
+        yield Rule("f", old, new, cond=cond), widest
 
 
 class ByHand(unittest.TestCase):
@@ -81,6 +154,15 @@ class ByHand(unittest.TestCase):
             self.check(f"rule f sum a #c to quot a 0 if {test}", None)
         self.check("rule f not a to quot a 0 if same 0 1", None)
 
+    def test_tests_of_constants_alone(self):
+        self.check("rule f not #c to #c if same #c 1", ((1,), 1), 1)
+        self.check("rule f not #c to #c if same #c 0", ((0,), 0), 1)
+        self.check("rule f not #c to #c if unlike #c 0 , unlike #c 1", None, 1)
+        self.check("rule f sum #c #d to #c if same #d 1", ((0, 1), 0), 1)
+        self.check("rule f sum #c #d to #c if below #c #d", ((0, 1), 0), 3)
+        self.check("rule f sum #c #d to #c if below #d #c", ((2, 1), 2), 2)
+        self.check("rule f sum #c #d to #d if same #c 3 , below 2 #d", ((3, 3), 3), 2)
+
     def test_without_inputs_or_names(self):
         self.check("rule f not 0 to -1", None, 4)
         self.check("rule f not 0 to 0", ((), 0), 3)
@@ -112,6 +194,76 @@ class ByDrawing(unittest.TestCase):
                 self.assertIsNone(told, (old, new, cond, width))
                 right += 1
         self.assertGreater(min(right, wrong), 20)
+
+
+class ByGoingThroughAllWorths(unittest.TestCase):
+    def check(self, rule, width):
+        told = judged(rule, width=width)
+        self.assertEqual(told, plainly_judged(rule, width), (str(rule), width))
+        return told
+
+    def test_rules_that_took_long(self):
+        for width, text, right in (
+                (3, "sum sum a b sum c a to sum sum c b sum a a", True),
+                (3, "sum a or xor b b xor #c #c to choice same #c 1 choice same a 3 sum a 1 a a if unlike #c 1", True),
+                (2, "sum sum sum a b sum c a sum b c to sum sum sum b a sum a c sum c b", True),
+                (4, "sum a or 0 xor #c #c to choice same #c 5 choice same a 7 sum a 1 a a if unlike #c 5", True),
+                (4, "choice same a #c sum.u a 1 a to choice same a #c sum a 1 a if below #c 3", True),
+                (3, "choice same a #c sum.u a 1 a to choice same a #c sum a 1 a if below #c 3", True),
+                (2, "choice same a #c sum.u a 1 a to choice same a #c sum a 1 a if below #c 3", True)):
+            told = self.check(read_rule(f"rule rr {text}"), width)
+            self.assertEqual(told is None, right, text)
+
+    def test_rules_that_are_wrong_by_a_late_row_alone(self):
+        for width, text, worths in (
+                (3, "sum sum a b sum c a to choice same and a and b c 7 0 sum sum c b sum a a", (7, 7, 7)),
+                (4, "sum a #c to choice same and a #c 15 0 sum a #c", (15, 15)),
+                (4, "sum a b to choice same and a b 15 0 sum b a", (15, 15)),
+                (3, "sum a sum #c #d to choice same and a and #c #d 7 0 sum sum #c #d a", (7, 7, 7)),
+                (4, "xor #c #d to choice same and #c #d 15 1 xor #d #c", (15, 15)),
+                (4, "froze a to choice same froze a 15 0 froze a", (15,)),
+                (2, "choice same a #c sum.u a 1 a to choice same a #c sum a 1 a if below #c 4", None)):
+            told = self.check(read_rule(f"rule rr {text}"), width)
+            self.assertEqual(told and told[0], worths, text)
+        # Only where the last test holds, too.
+        for number in range(8):
+            rule = read_rule(f"rule rr sum a #c to sum sum a #c and #c 4 if same and #c 3 3 , below {number} #c")
+            self.assertEqual(self.check(rule, 3), ((7, 0), 3) if number < 7 else None)
+
+    def test_drawn_rules_of_all_words(self):
+        right = wrong = tested = 0
+        for at, (rule, widest) in enumerate(drawn_rules("drawn", 700, 8)):
+            told = self.check(rule, min(1 + at % 3, widest))
+            right += told is None
+            wrong += told is not None
+            tested += len(rule.cond) > 0
+        self.assertGreater(min(right, wrong), 150)
+        self.assertGreater(tested, 100)
+
+    def test_drawn_rules_of_the_greatest_that_are_promised(self):
+        late = 0
+        for at, (rule, widest) in enumerate(drawn_rules("greatest", 120, 12)):
+            told = self.check(rule, widest if at % 4 == 0 else min(2, widest))
+            late += told is None or max(told[0], default=0) > 0
+        self.assertGreater(late, 30)
+
+    def test_every_word_over_looks_and_sets(self):
+        heads = [f"{head} a b" for head in TWO_PARTS if head not in FLAGGED]
+        heads += [f"{head}{flags} a b" for head in ("sum", "less") for flags in ("", ".u", ".s", ".us")]
+        heads += [f"twice{flags} a" for flags in ("", ".u", ".s", ".us")] + ["not a", "froze a"]
+        heads += [f"choice {r} a b b a" for r in ("same", "below", "under")]
+        for one, other in itertools.product(heads, repeat=2):
+            old = read_rule(f"rule f and {one} or a b to 0").old
+            new = read_rule(f"rule f and {other} or a b to 0").old
+            self.check(Rule("f", old, new), 2)
+        for one in heads:
+            # Over what may be a number, several, BAD, FAULT or some of these together.
+            text = re.sub(r"\bb\b", "rest b left a B", re.sub(r"\ba\b", "quot sum.u froze a 1 froze a", one)).lower()
+            old = read_rule(f"rule f sum less b b {text} to 0").old
+            self.check(Rule("f", old, within(old)[-1]), 2)
+            self.check(Rule("f", old, old), 2)
+            self.check(Rule("f", ("sum", "", ("look", "a"), ("sum", "u", ("look", "b"), ("look", "b"))),
+                            read_rule(f"rule f {text} to 0").old), 2)
 
 
 class Bounds(unittest.TestCase):
