@@ -1,6 +1,5 @@
 """Checks of papers for a rule and against it, whoever wrote them."""
 
-from poisonrules.olds import has_within
 from poisonrules.pairforms import are_letters, are_olds, has_forms, is_standing, news_forms, olds_forms
 from poisonrules.terms import inputs_of
 from poisonrules.tuples import is_rising
@@ -38,14 +37,14 @@ def is_kept(walk, kept):
     if not all([walk.stands(pair) for pair in pairs]):
         return False
     by_news = {}
-    for number, marked, unmarked in pairs:
-        by_news.setdefault(number, []).append((marked, unmarked))
+    for number, olds in pairs:
+        by_news.setdefault(number, []).append(olds)
     met = {pair: True for pair in pairs}
     for pair in walk.beginnings() + pairs:
         for _, behind in walk.ways(pair):
             if behind not in met:
-                number, marked, unmarked = behind
-                if not has_within(by_news.get(number, []), marked, unmarked):
+                number, olds = behind
+                if not walk.olds.has_within(by_news.get(number, []), olds):
                     return False
                 met[behind] = True
     return True

@@ -9,7 +9,7 @@ from poisonrules.walkedtests import WalkedTests
 
 
 class Walk:
-    """A rule by one standing. A pair is kept short, as (the number of its news, marked olds, unmarked olds)."""
+    """A rule by one standing. A pair is kept short, as (the number of its news, that of its olds), or by its place."""
 
     def __init__(self, rule, standing):
         leaves = fixed_leaves(rule, standing)
@@ -20,15 +20,18 @@ class Walk:
         self.const_places = {bits: at % self.many_tuples for at, bits in enumerate(self.fixed)}
         self.rule = rule
         self.new = Side(rule.new, rule, standing)
-        self.old = Olds(Side(rule.old, rule, standing))
+        self.olds = Olds(Side(rule.old, rule, standing))
         self.tests = WalkedTests(rule)
         self.many_tested = len(self.tests.first())
         self.news = []
         self.numbers = {}
         self.ends = []
+        self.pairs = []
+        self.places = {}
         self.known_moves = {}
         self.known_letters = {}
         self.known_ways = {}
+        self.known_ahead = {}
 
     def letters(self):
         """All letters, rising."""
@@ -40,9 +43,9 @@ class Walk:
 
     def beginnings(self):
         """All short pairs at first, as their news rise."""
-        marked, unmarked = self.old.masks_of([(1, *state) for state in starts(self.rule.old)])
+        olds = self.olds.number_of_told([(1, *state) for state in starts(self.rule.old)])
         first = self.tests.first()
-        return [(self.number_of(first + state), marked, unmarked) for state in starts(self.rule.new)]
+        return [(self.number_of(first + state), olds) for state in starts(self.rule.new)]
 
     def number_of(self, news):
         """The number by which news are kept."""
@@ -59,21 +62,19 @@ class Walk:
 
     def stands(self, pair):
         """Whether a short pair stands."""
-        number, marked, unmarked = pair
+        number, olds = pair
         end = self.ends[number]
-        if end == "none" or (marked | unmarked) & self.old.ending_bad != 0:
-            return True
-        return end == "number" and marked & self.old.ending_number != 0
+        return end == "none" or self.olds.may_be_bad(olds) or end == "number" and self.olds.may_be_new(olds)
 
     def moves(self, number):
-        """(fixed bits, new's bit, number behind, least such letter) of news by their number, letters rising."""
+        """Of news by their number, for all fixed bits, (these, a row of (new's bit, number behind, least letter))."""
         if number not in self.known_moves:
             tested, state = self.parts_of_news(number)
             found = []
             for fixed in self.fixed:
-                tested_behind = self.tests.behind(tested, fixed[self.many_looks:])
-                for bit, behind, mixed in self.new.moves(state, fixed):
-                    found.append((fixed, bit, self.number_of(tested_behind + behind), fixed + mixed))
+                behind = self.tests.behind(tested, fixed[self.many_looks:])
+                found.append((fixed, [(bit, self.number_of(behind + state_behind), fixed + mixed)
+                                      for bit, state_behind, mixed in self.new.moves(state, fixed)]))
             self.known_moves[number] = found
         return self.known_moves[number]
 
@@ -84,26 +85,50 @@ class Walk:
 
     def ways(self, pair):
         """(letter, short pair behind) of a short pair: for all fixed bits each pair behind, by its least letter."""
-        number, marked, unmarked = pair
-        return [(letter, (behind, *self.old.behind(marked, unmarked, fixed, bit)))
-                for fixed, bit, behind, letter in self.moves(number)]
+        number, olds = pair
+        found = []
+        for fixed, row in self.moves(number):
+            olds_behind = self.olds.behind(olds, fixed)
+            found.extend([(letter, (behind, olds_behind[bit])) for bit, behind, letter in row])
+        return found
 
-    def const_ways(self, pair):
-        """For each tuple of the constants' bits, rising, the short pairs behind a short pair, each once."""
-        if pair not in self.known_ways:
-            number, marked, unmarked = pair
+    def place_of(self, pair):
+        """The place of a short pair."""
+        if pair not in self.places:
+            self.places[pair] = len(self.pairs)
+            self.pairs.append(pair)
+        return self.places[pair]
+
+    def place_stands(self, place):
+        """Whether the pair of a place stands."""
+        return self.stands(self.pairs[place])
+
+    def const_ways(self, place):
+        """For each tuple of the constants' bits, rising, the places of all pairs behind that of a place."""
+        if place not in self.known_ways:
+            number, olds = self.pairs[place]
             found = [{} for _ in range(self.many_tuples)]
-            for fixed, bit, behind, _ in self.moves(number):
-                pair_behind = (behind, *self.old.behind(marked, unmarked, fixed, bit))
-                found[self.const_places[fixed]][pair_behind] = True
-            self.known_ways[pair] = [list(one) for one in found]
-        return self.known_ways[pair]
+            for fixed, row in self.moves(number):
+                olds_behind = self.olds.behind(olds, fixed)
+                places = {self.place_of((behind, olds_behind[bit])): True for bit, behind, _ in row}
+                found[self.const_places[fixed]].update(places)
+            self.known_ways[place] = [list(one) for one in found]
+        return self.known_ways[place]
+
+    def places_ahead(self, place, bits):
+        """The places of pairs whose ways are known from which the constants' bits of a number lead to that of place."""
+        if len(self.known_ahead) == 0:
+            for before, rows in self.known_ways.items():
+                for number, row in enumerate(rows):
+                    for behind in row:
+                        self.known_ahead.setdefault((behind, number), []).append(before)
+        return self.known_ahead[place, bits]
 
     def by_letter(self, pair, letter):
         """The short pair to which a short pair comes by a letter."""
-        number, marked, unmarked = pair
+        number, olds = pair
         fixed, bit, behind = self.move_by_letter(number, letter)
-        return (behind, *self.old.behind(marked, unmarked, fixed, bit))
+        return (behind, self.olds.behind(olds, fixed)[bit])
 
     def move_by_letter(self, number, letter):
         """(fixed bits, new's bit, number behind) of news by their number."""
@@ -120,12 +145,12 @@ class Walk:
     def short(self, pair):
         """A pair, short."""
         news, olds = pair
-        return (self.number_of(news), *self.old.masks_of(olds))
+        return (self.number_of(news), self.olds.number_of_told(olds))
 
     def shown(self, pair):
         """A short pair as it is told."""
-        number, marked, unmarked = pair
-        return (self.news[number], self.old.shown(marked, unmarked))
+        number, olds = pair
+        return (self.news[number], self.olds.told(olds))
 
 
 def standings_of(rule):

@@ -1,7 +1,6 @@
 """Checks of the papers of machines, whoever wrote them."""
 
 from poisonrules.machines import is_machine, rooms_ahead
-from poisonrules.olds import has_within
 from poisonrules.pairforms import are_olds, has_forms, is_standing, news_forms, olds_forms
 from poisonrules.rules import Rule
 from poisonrules.terms import inputs_of
@@ -18,9 +17,14 @@ def weakest_holds(rule, machine, thing):
     if not all([are_pairs_in_rooms(part, bare, len(machine)) for part in thing]):
         return False
     walks = {standing: Walk(bare, standing) for standing in standings_of(bare)}
-    keeps, shows = [[(room, standing, walks[standing].short((news, olds))) for room, standing, news, olds in part]
+    keeps, shows = [[(room, standing, short_place(walks[standing], news, olds)) for room, standing, news, olds in part]
                     for part in thing]
     return are_keeps(machine, walks, keeps) and are_shows(machine, walks, shows)
+
+
+def short_place(walk, news, olds):
+    """The place of a pair."""
+    return walk.place_of(walk.short((news, olds)))
 
 
 def are_pairs_in_rooms(thing, rule, many_rooms):
@@ -40,43 +44,49 @@ def is_pair_in_room(thing, many_rooms, many_inputs, news, olds):
     return is_standing(thing[1], many_inputs) and has_forms(thing[2], news) and are_olds(thing[3], olds)
 
 
-def ways_from(machine, walks, room, standing, pair):
-    """(place of the constants' bits, room behind, pair behind) of all letters."""
-    rows = walks[standing].const_ways(pair)
-    return [(at, behind, one) for at, (behind, row) in enumerate(zip(machine[room][1], rows)) for one in row]
-
-
 def all_beginnings(walks):
-    """(room 0, standing, pair) of each beginning by each standing."""
-    return [(0, standing, pair) for standing, walk in walks.items() for pair in walk.beginnings()]
+    """(room 0, standing, place) of each beginning by each standing."""
+    return [(0, standing, walk.place_of(pair)) for standing, walk in walks.items() for pair in walk.beginnings()]
+
+
+def ways_from(machine, walks, room, standing, place):
+    """(number of the constants' bits, room behind, number of news, number of olds) for all letters."""
+    walk = walks[standing]
+    rows = walk.const_ways(place)
+    return [(bits, behind, *walk.pairs[one])
+            for bits, (behind, row) in enumerate(zip(machine[room][1], rows)) for one in row]
 
 
 def are_keeps(machine, walks, keeps):
     """Whether what a room that lets keeps stands, and all that comes of beginnings and keeps is kept."""
     kept = {}
-    for room, standing, (number, marked, unmarked) in keeps:
-        kept.setdefault((room, standing, number), []).append((marked, unmarked))
-    for room, standing, pair in all_beginnings(walks) + keeps:
-        if machine[room][0] and not walks[standing].stands(pair):
+    for room, standing, place in keeps:
+        number, olds = walks[standing].pairs[place]
+        kept.setdefault((room, standing, number), []).append(olds)
+    for room, standing, place in all_beginnings(walks) + keeps:
+        walk = walks[standing]
+        if machine[room][0] and not walk.place_stands(place):
             return False
-        for _, behind, (number, marked, unmarked) in ways_from(machine, walks, room, standing, pair):
-            if not has_within(kept.get((behind, standing, number), []), marked, unmarked):
+        for _, behind, number, olds in ways_from(machine, walks, room, standing, place):
+            if not walk.olds.has_within(kept.get((behind, standing, number), []), olds):
                 return False
     return True
 
 
 def are_shows(machine, walks, shows):
     """Whether each room that does not let is shown, and each of shows comes of beginnings and shows in all ways."""
-    refuted = {room: True for room, standing, pair in shows if not walks[standing].stands(pair)}
+    refuted = {room: True for room, standing, place in shows if not walks[standing].place_stands(place)}
     if not all([let or room == 0 or room in refuted for room, (let, _) in enumerate(machine)]):
         return False
     come = {}
-    for room, standing, pair in all_beginnings(walks) + shows:
-        for at, _, (number, marked, unmarked) in ways_from(machine, walks, room, standing, pair):
-            come.setdefault((room, at, standing, number), []).append((marked, unmarked))
+    for room, standing, place in all_beginnings(walks) + shows:
+        for bits, _, number, olds in ways_from(machine, walks, room, standing, place):
+            come.setdefault((room, bits, standing, number), []).append(olds)
     ahead = rooms_ahead(machine)
-    for room, standing, (number, marked, unmarked) in shows:
-        for before, at in ahead[room]:
-            if not has_within(come.get((before, at, standing, number), []), marked, unmarked):
+    for room, standing, place in shows:
+        walk = walks[standing]
+        number, olds = walk.pairs[place]
+        for before, bits in ahead[room]:
+            if not walk.olds.has_within(come.get((before, bits, standing, number), []), olds):
                 return False
     return True

@@ -26,7 +26,7 @@ def strands_of(rule):
     found = []
     for standing in standings_of(rule):
         walk = Walk(rule, standing)
-        found.extend([Strand(walk, standing, beginning) for beginning in walk.beginnings()])
+        found.extend([Strand(walk, standing, walk.place_of(beginning)) for beginning in walk.beginnings()])
     return found
 
 

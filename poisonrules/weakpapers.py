@@ -1,7 +1,6 @@
 """The paper of a weakest machine: what it keeps where it lets, and what shows that it may not let elsewhere."""
 
 from poisonrules.machines import rooms_ahead
-from poisonrules.olds import has_within
 
 
 def dead_rooms(machine):
@@ -22,42 +21,66 @@ def keeps_of(machine, strands):
     dead = dead_rooms(machine)
     found = []
     for strand in strands:
-        for room, pair in least_pairs(machine, dead, strand):
-            found.append((room, strand.standing, *strand.walk.shown(pair)))
+        pairs = common_pairs(machine, dead, strand)
+        # One pair for all that come with the same news is often enough.
+        if not all([strand.walk.stands(pair) for room, pair in pairs if machine[room][0]]):
+            pairs = least_pairs(machine, dead, strand)
+        found.extend([(room, strand.standing, *strand.walk.shown(pair)) for room, pair in pairs])
     return tuple(sorted(found))
+
+
+def ways_behind(machine, dead, walk, room, pair):
+    """(room behind, number of news, number of olds) of all to which letters lead; from dead rooms on without olds."""
+    # Where neither a room nor any behind it lets nothing needs to stand, so none are needed.
+    none = walk.olds.number_of(0)
+    found = []
+    for behind, row in zip(machine[room][1], walk.const_ways(walk.place_of(pair))):
+        pairs = [walk.pairs[place] for place in row]
+        if dead[behind]:
+            pairs = list({(number, none): True for number, _ in pairs})
+        found.extend([(behind, number, olds) for number, olds in pairs])
+    return found
+
+
+def common_pairs(machine, dead, strand):
+    """(room, short pair): for each room and all that come there with the same news their common olds, and so on."""
+    walk = strand.walk
+    first, olds_at_first = walk.pairs[strand.first]
+    kept = {(0, first): olds_at_first}
+    waiting = [(0, first, olds_at_first)]
+    done = 0
+    while done < len(waiting):
+        room, number, olds = waiting[done]
+        done += 1
+        # Fewer olds that came up meanwhile wait for their turn.
+        if kept[room, number] == olds:
+            for behind, one, more in ways_behind(machine, dead, walk, room, (number, olds)):
+                known = kept.get((behind, one), more)
+                common = walk.olds.number_of(walk.olds.masks[known] & walk.olds.masks[more])
+                if (behind, one) not in kept or common != known:
+                    kept[behind, one] = common
+                    waiting.append((behind, one, common))
+    return [(room, (number, olds)) for (room, number), olds in kept.items() if room != 0]
 
 
 def least_pairs(machine, dead, strand):
     """(room, short pair): all to which a strand's letters lead from room 0 on, but those with needless olds."""
+    walk = strand.walk
     kept = {}
-    waiting = [(0, strand.pairs[0])]
+    waiting = [(0, walk.pairs[strand.first])]
     done = 0
     while done < len(waiting):
         room, pair = waiting[done]
         done += 1
         # Where another one with fewer olds has come up meanwhile it serves for this one, too.
-        if room == 0 or pair[1:] in kept[room, pair[0]]:
-            for behind, row in zip(machine[room][1], strand.walk.const_ways(pair)):
-                waiting.extend(taken(kept, behind, without_olds(row) if dead[behind] else row))
-    return [(room, (number, *olds)) for (room, number), some in kept.items() for olds in some]
-
-
-def without_olds(pairs):
-    """Short pairs without their olds, each once: where nothing behind needs to stand none are needed."""
-    return list({(number, 0, 0): True for number, _, _ in pairs})
-
-
-def taken(kept, room, pairs):
-    """Keep short pairs in room, each instead of those that have more olds; told are those that are new, with room."""
-    found = []
-    for number, marked, unmarked in pairs:
-        some = kept.get((room, number), [])
-        if not has_within(some, marked, unmarked):
-            olds = (marked, unmarked)
-            left = [one for one in some if not has_within([olds], one[0], one[1])]
-            kept[room, number] = [*left, olds]
-            found.append((room, (number, marked, unmarked)))
-    return found
+        if room == 0 or pair[1] in kept[room, pair[0]]:
+            for behind, number, olds in ways_behind(machine, dead, walk, room, pair):
+                some = kept.get((behind, number), [])
+                if not walk.olds.has_within(some, olds):
+                    left = [other for other in some if not walk.olds.is_within(olds, other)]
+                    kept[behind, number] = [*left, olds]
+                    waiting.append((behind, (number, olds)))
+    return [(room, (number, olds)) for (room, number), some in kept.items() for olds in some]
 
 
 def shows_of(machine, strands, keys):
@@ -81,10 +104,10 @@ class Shows:
     def refute(self, room):
         """Have a pair in room that does not stand."""
         for at, strand in enumerate(self.strands):
-            if not all([strand.stands(place) for place in self.chosen.get((room, at), {})]):
+            if not all([strand.walk.place_stands(place) for place in self.chosen.get((room, at), {})]):
                 return
         for at, strand in enumerate(self.strands):
-            places = [place for place in self.members(room, at) if not strand.stands(place)]
+            places = [place for place in self.members(room, at) if not strand.walk.place_stands(place)]
             if len(places) > 0:
                 self.choose(room, at, places[0])
                 return
@@ -107,7 +130,8 @@ class Shows:
     def place_ahead(self, room, at, place, bits):
         """The place of a pair in room from which bits lead to that of place, one that was chosen where there is one."""
         members = self.members(room, at)
-        some = [before for before in self.strands[at].places_ahead(place, bits) if is_among(before, members)]
+        ahead = self.strands[at].walk.places_ahead(place, bits)
+        some = [before for before in ahead if is_among(before, members)]
         chosen = self.chosen.get((room, at), {})
         return ([before for before in some if before in chosen] + some)[0]
 
@@ -115,8 +139,8 @@ class Shows:
         """All that was chosen, rising."""
         found = []
         for (room, at), places in self.chosen.items():
-            strand = self.strands[at]
-            found.extend([(room, strand.standing, *strand.walk.shown(strand.pairs[place])) for place in places])
+            standing, walk = self.strands[at].standing, self.strands[at].walk
+            found.extend([(room, standing, *walk.shown(walk.pairs[place])) for place in places])
         return tuple(sorted(found))
 
 
