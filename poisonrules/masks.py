@@ -9,3 +9,8 @@ def places_in(mask):
         found.append(low.bit_length() - 1)
         mask ^= low
     return found
+
+
+def repeated(mask, size, times):
+    """A mask of so many places, repeated so many times."""
+    return mask * (((1 << size * times) - 1) // ((1 << size) - 1))

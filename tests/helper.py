@@ -609,3 +609,113 @@ def plain_least(machine):
                 order.append(behind)
     numbers = {kinds[room]: at for at, room in enumerate(order)}
     return tuple((machine[room][0], tuple(numbers[kinds[behind]] for behind in machine[room][1])) for room in order)
+
+
+OPERAND_COUNTS = {"choice": 4, "not": 1, "froze": 1, "twice": 1, "copy": 1}
+LINE_HEADS = (*ONE_PART, *TWO_PARTS, "choice", "froze", "copy", "sum", "less", "quot")
+
+
+def chance_operand(chance, inputs, many_lines):
+    kind = chance.randrange(6)
+    if kind < 2 and inputs:
+        return ("look", chance.choice(inputs))
+    if kind < 5 and many_lines:
+        # Mostly the last lines, so that there are lines behind lines.
+        return ("line", many_lines - 1 - chance.randrange(min(many_lines, chance.choice((2, 3, 12)))))
+    return num(chance.choice((-99, -2, -1, 0, 1, 2, 3, 5, 99)))
+
+
+def chance_line(chance, inputs, many_lines, heads):
+    head = chance.choice(heads)
+    operands = [chance_operand(chance, inputs, many_lines) for _ in range(OPERAND_COUNTS.get(head, 2))]
+    if head == "choice":
+        return (head, (chance.choice(("same", "below", "under")), *operands[:2]), *operands[2:])
+    flags = (chance.choice(("", "u", "s", "us")),) if head in FLAGGED else ()
+    return (head, *flags, *operands)
+
+
+def program_size(inputs, lines, outs, width):
+    """What point 2 bounds by twelve: width times inputs, looks at them and frozes."""
+    looks = [one for line in [*lines, ("outs", *outs)] for one in parts(line) if one[0] == "look"]
+    return width * (len(inputs) + len(looks) + len([line for line in lines if line[0] == "froze"]))
+
+
+def chance_program(chance, most=12, widths=(1, 2, 2, 3, 4), most_lines=6, heads=LINE_HEADS):
+    """(inputs, lines, outs, width) of a program by chance, whose size is at most so great."""
+    while True:
+        width = chance.choice(widths)
+        inputs = ("a", "b", "x")[:chance.choice((0, 1, 1, 2, 2, 3))]
+        lines = []
+        for at in range(chance.randrange(most_lines + 1)):
+            lines.append(chance_line(chance, inputs, at, heads))
+        outs = tuple(chance_operand(chance, inputs, len(lines)) for _ in range(chance.randrange(1, 4)))
+        if program_size(inputs, lines, outs, width) <= most:
+            return inputs, tuple(lines), outs, width
+
+
+def run_once(program, worths, draws):
+    """What a program comes to where draws has a number for each look at an ANY input and each froze, as they stand."""
+    inputs, lines, outs, width = program
+    told, came = dict(zip(inputs, worths)), []
+
+    def seen(operand):
+        if operand[0] == "line":
+            return came[operand[1]]
+        return drawn(operand, told, {}, width, draws)
+
+    for line in lines:
+        operands = [seen(one) for one in parts(line)]
+        if line[0] == "copy":
+            came.append(operands[0])
+        elif line[0] == "froze":
+            draw = next(draws)
+            came.append(draw if operands[0] == BAD else operands[0])
+        else:
+            names = [("look", str(at)) for at in range(len(operands))]
+            rest = iter([None] * len(names))
+            came.append(drawn(with_operands(line, names), dict(zip("0123", operands)), {}, width, rest))
+        if came[-1] == FAULT:
+            return (FAULT,)
+    return tuple(seen(one) for one in outs)
+
+
+def with_operands(line, operands):
+    if line[0] == "choice":
+        return (line[0], (line[1][0], *operands[:2]), *operands[2:])
+    return (*[one for one in line if not isinstance(one, tuple)], *operands)
+
+
+def all_runs(program, worths):
+    """All outcomes of a program, by each way to draw: slow, but just what point 20 says."""
+    inputs, lines, outs, width = program
+    told, rows = dict(zip(inputs, worths)), []
+    for line in [*lines, ("outs", *outs)]:
+        for one in parts(line):
+            if one[0] == "look":
+                rows.append(range(2 ** width) if told[one[1]] == ANY else (0,))
+        if line[0] == "froze":
+            rows.append(range(2 ** width))
+    return tuple(sorted({run_once(program, worths, iter(draws)) for draws in itertools.product(*rows)}))
+
+
+def all_worths(inputs, width):
+    """All tuples of worths of inputs, rising."""
+    return list(itertools.product(range(-2, 2 ** width), repeat=len(inputs)))
+
+
+def lets_outcome(outcome, old):
+    """Whether an outcome by itself is let by old, as point 20 has it."""
+    if (FAULT,) in old:
+        return True
+    return outcome != (FAULT,) and any(
+        all(let in (BAD, worth) for let, worth in zip(one, outcome)) for one in old)
+
+
+def slow_refined(one, other):
+    """The least worths with the least outcome by which other isn't let by one, or None."""
+    for worths in all_worths(one[0], one[3]):
+        old = all_runs(one, worths)
+        unlet = [outcome for outcome in all_runs(other, worths) if not lets_outcome(outcome, old)]
+        if unlet:
+            return worths, min(unlet)
+    return None
