@@ -17,6 +17,13 @@ def operands_of(program):
     return [operand for line in program.lines for operand in parts_of(line)] + list(program.outs)
 
 
+def program_size(program):
+    """program's width times the sum of its inputs, looks at them and frozes."""
+    looks = [operand for operand in operands_of(program) if operand[0] == "look"]
+    frozes = [line for line in program.lines if line[0] == "froze"]
+    return program.width * (len(program.inputs) + len(looks) + len(frozes))
+
+
 def with_parts(line, parts):
     """A line, or a term, with other parts."""
     if line[0] == "choice":

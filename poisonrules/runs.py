@@ -16,7 +16,8 @@ class Runs:
     """The runs of a program by what looks at its inputs may come to, in so many runs at first."""
 
     def __init__(self, program, looks, many):
-        self.program = program
+        self.width = program.width
+        self.outs = program.outs
         self.looks = looks
         self.many_first = many
         self.many = many
@@ -55,7 +56,7 @@ class Runs:
             return self.lines[word]
         if head == "look":
             return self.looks[word]
-        return {word & ((1 << self.program.width) - 1): (1 << self.many) - 1}
+        return {word & ((1 << self.width) - 1): (1 << self.many) - 1}
 
     def line_worths(self, line):
         """What a line may come to; that it faults is kept."""
@@ -74,7 +75,7 @@ class Runs:
         """What a froze may come to."""
         if BAD not in worths:
             return worths
-        return {number: worths.get(number, 0) | worths[BAD] for number in range(1 << self.program.width)}
+        return {number: worths.get(number, 0) | worths[BAD] for number in range(1 << self.width)}
 
     def chosen_worths(self, comparison, parts):
         """What a choice may come to."""
@@ -84,7 +85,7 @@ class Runs:
             for other, more in others.items():
                 if BAD in (one, other):
                     bad |= mask & more
-                elif holds(comparison, one, other, self.program.width):
+                elif holds(comparison, one, other, self.width):
                     held |= mask & more
                 else:
                     unheld |= mask & more
@@ -106,7 +107,7 @@ class Runs:
                 if both != 0:
                     key = (one, other)
                     if key not in known:
-                        known[key] = reckoned(line, [one] if other is None else [one, other], self.program.width)
+                        known[key] = reckoned(line, [one] if other is None else [one, other], self.width)
                     worth = known[key]
                     found[worth] = found.get(worth, 0) | both
         return found
@@ -114,7 +115,7 @@ class Runs:
     def told(self):
         """All outcomes, each with a mask of the runs that there were at first."""
         found = {(): self.sound}
-        for out in self.program.outs:
+        for out in self.outs:
             worths = self.worths_of(out)
             found = {(*ahead, worth): both for ahead, mask in found.items()
                      for worth, more in worths.items() if (both := mask & more) != 0}

@@ -14,6 +14,11 @@ def is_serial(term):
     return all([thing[0] not in UNSERIAL for thing in things_of(term)])
 
 
+def is_serial_rule(rule):
+    """Whether old and new of rule are serial."""
+    return is_serial(rule.old) and is_serial(rule.new)
+
+
 def stated_things(term):
     """The things of term that have a number in a state, as written."""
     return [thing for thing in things_of(term) if thing[0] in STATED]

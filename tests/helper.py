@@ -719,3 +719,127 @@ def slow_refined(one, other):
         if unlet:
             return worths, min(unlet)
     return None
+
+
+class Node:
+    """A line of a program that knows what it looks at, not by numbers."""
+
+    def __init__(self, line, nodes):
+        self.line = line
+        self.operands = [nodes[one[1]] if one[0] == "line" else one for one in parts(line)]
+
+
+def looks_at(nodes, outs, node):
+    """How often a node is looked at."""
+    return [one is node for other in nodes for one in other.operands].count(True) + [one is node for one in outs].count(True)
+
+
+def met(term, operand, nodes, outs, told, inner):
+    """Whether a part of old is an operand, as point 22 has it; what looks and consts are, and other lines, are kept."""
+    if term[0] == "look":
+        return told.setdefault(term, operand) == operand
+    if term[0] == "const":
+        return isinstance(operand, tuple) and operand[0] == "num" and told.setdefault(term, operand) == operand
+    if term[0] == "num":
+        return operand == term
+    if isinstance(operand, tuple) or looks_at(nodes, outs, operand) != 1:
+        return False
+    inner.append(operand)
+    return met_line(term, operand, nodes, outs, told, inner)
+
+
+def head_words(line):
+    if line[0] == "choice":
+        return line[0], line[1][0]
+    return line[:2] if line[0] in FLAGGED else line[:1]
+
+
+def met_line(term, node, nodes, outs, told, inner):
+    return head_words(term) == head_words(node.line) and all(
+        met(part, operand, nodes, outs, told, inner) for part, operand in zip(parts(term), node.operands))
+
+
+def nodes_of(fields):
+    nodes = []
+    for line in fields[1]:
+        nodes.append(Node(line, nodes))
+    return nodes, [nodes[one[1]] if one[0] == "line" else one for one in fields[2]]
+
+
+def slow_fit(fields, old, cond, at):
+    """(nodes, outs, what looks and consts are, other nodes of old) where a rule fits at a line, or None."""
+    nodes, outs = nodes_of(fields)
+    told, inner = {}, []
+    if not met_line(old, nodes[at], nodes, outs, told, inner):
+        return None
+    numbers = {name: told["const", name][1] for name in names_of(old, "const")}
+    width = fields[3]
+    for r, one, other in cond:
+        if not compares(r, drawn(one, {}, numbers, width, None), drawn(other, {}, numbers, width, None), width):
+            return None
+    return nodes, outs, told, inner
+
+
+def slow_fits(fields, old, cond):
+    return tuple(at for at in range(len(fields[1])) if slow_fit(fields, old, cond, at))
+
+
+def slow_stepped(fields, old, new, cond, at):
+    """A program stepped by a rule that fits at a line, as point 22 has it."""
+    nodes, outs, told, inner = slow_fit(fields, old, cond, at)
+    root, added = nodes[at], []
+
+    def laid(term, node):
+        node.line, node.operands = term, []
+        for part in parts(term):
+            if part[0] in ("look", "const", "num"):
+                node.operands.append(told.get(part, part))
+            else:
+                node.operands.append(laid(part, Node(("not", num(0)), [])))
+        added.append(node)
+        return node
+
+    if new[0] in ("look", "const", "num"):
+        root.line, root.operands = ("copy", A), [told.get(new, new)]
+        added.append(root)
+    else:
+        laid(new, root)
+    left = []
+    for node in nodes:
+        left += added if node is root else [] if node in inner else [node]
+    return numbered(fields, left, outs)
+
+
+def numbered(fields, nodes, outs):
+    """The fields of a program of these nodes."""
+    def shown(operand):
+        return operand if isinstance(operand, tuple) else ("line", [node is operand for node in nodes].index(True))
+    lines = tuple(with_operands(node.line, [shown(one) for one in node.operands]) for node in nodes)
+    return fields[0], lines, tuple(shown(one) for one in outs), fields[3]
+
+
+def planted(chance, term, inputs, lines, told):
+    """The operand at which stands what term comes to, by lines that are added."""
+    if term[0] == "look":
+        operand = ("line", chance.randrange(min(len(lines), 2))) if lines and chance.randrange(2) else None
+        return told.setdefault(term, operand or chance_operand(chance, inputs, 0))
+    if term[0] == "const":
+        return told.setdefault(term, num(chance.choice((-1, 0, 1, 2, 3))))
+    if term[0] == "num":
+        return term
+    operands = [planted(chance, part, inputs, lines, told) for part in parts(term)]
+    lines.append(with_operands(term, operands))
+    return ("line", len(lines) - 1)
+
+
+def planted_program(chance, old, most=12):
+    """(inputs, lines, outs, width) of a program by chance that has a rule's old among its lines, or None."""
+    inputs, lines = ("a", "b")[:chance.choice((1, 2))], []
+    for _ in range(chance.randrange(3)):
+        lines.append(chance_line(chance, inputs, len(lines), LINE_HEADS))
+    out = planted(chance, old, inputs, lines, {})
+    for _ in range(chance.randrange(3)):
+        lines.append(chance_line(chance, inputs, len(lines), LINE_HEADS))
+    outs = (out, chance_operand(chance, inputs, len(lines)))
+    width = chance.choice((1, 2, 2, 3))
+    return (inputs, tuple(lines), outs, width) if program_size(inputs, lines, outs, width) <= most else None
