@@ -13,7 +13,7 @@ class Bench:
         self.most = most
         # What is kept at first, then behind each deed that stands.
         self.states = [Kept({}, {})]
-        self.ends = []
+        self.logged = []
 
     def __len__(self):
         return len(self.states[-1].by_rule)
@@ -52,26 +52,26 @@ class Bench:
 
     def behind(self, kept, word, things):
         """What is kept behind a deed, of which both ends are logged."""
-        self.ends.append("in " + word)
+        self.logged.append("in " + word)
         try:
             action = DEEDS[word]
             return action(kept, self.most, *things)
         finally:
-            self.ends.append("out " + word)
+            self.logged.append("out " + word)
 
     def back(self, many):
         """Go back to behind the first so many deeds; NoBack."""
-        self.ends.append("in back")
+        self.logged.append("in back")
         try:
             if not is_whole(many) or not 0 <= many < len(self.states):
                 raise NoBack(many)
             self.states = self.states[:many + 1]
         finally:
-            self.ends.append("out back")
+            self.logged.append("out back")
 
     def run(self, deeds):
         """Do all deeds of a tuple, or none where one is refused; NoDeed."""
-        self.ends.append("in run")
+        self.logged.append("in run")
         try:
             if not are_deeds(deeds):
                 raise NoDeed("what is no tuple of deeds cannot be run")
@@ -80,7 +80,7 @@ class Bench:
                 states.append(self.behind(states[-1], word, things))
             self.states = states
         finally:
-            self.ends.append("out run")
+            self.logged.append("out run")
 
     def rules(self, *, by=None):
         """(name, Rule) of all rules, rising by names, or by what by tells of each Rule, then by names."""
@@ -110,4 +110,4 @@ class Bench:
 
     def log(self):
         """Both ends of all calls of deeds, back and run."""
-        return tuple(self.ends)
+        return tuple(self.logged)

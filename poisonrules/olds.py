@@ -1,102 +1,103 @@
-"""All that an old term may have come to so far, kept by numbers."""
+"""All that an old term may have come to so far, kept as masks."""
 
 from poisonrules.masks import places_in
+from poisonrules.tracks import free_lanes
 
 
 class Olds:
-    """The olds of pairs: sets of marked states, tuples of a mark, 1 where all bits so far were new's, and a state.
+    """The states of a rule's old that came up, by whatever standing.
 
-    The marked states that came up have places in masks; a set has a mask with their ones, and is kept by a number.
+    Each state has a block of places, two for each tuple of the bits that letters have. A set of olds is a mask of the
+    first two of blocks: of those that are not all new's bits so far, and those that are. So one row can have all to
+    which a state comes, the two for each tuple of bits at the place of these.
     """
 
-    def __init__(self, side):
-        self.side = side
-        self.marked = []
-        self.places = {}
-        self.ending_bad = 0
-        self.ending_new = 0
-        self.masks = []
-        self.numbers = {}
-        self.known_steps = {}
-        self.known_behind = {}
-        self.known_told = {}
+    def __init__(self, track, many_bits):
+        self.track = track
+        self.block_bits = many_bits + 1
+        self.codes = []
+        self.units = {}
+        # The first two places of all blocks.
+        self.marks = 0
+        self.known_lanes = {}
+        self.known_ends = {}
 
-    def place_of(self, marked):
-        """The place of a marked state."""
-        if marked not in self.places:
-            place = len(self.marked)
-            self.places[marked] = place
-            self.marked.append(marked)
-            end = self.side.ending(marked[1:])
-            if end == "bad":
-                self.ending_bad |= 1 << place
-            elif end == "number" and marked[0] == 1:
-                self.ending_new |= 1 << place
-        return self.places[marked]
+    def unit_of(self, code):
+        """The mask of a state by its code that is not all new's bits; twice that is one that is."""
+        if code not in self.units:
+            unit = 1 << (len(self.codes) << self.block_bits)
+            self.units[code] = unit
+            self.codes.append(code)
+            self.marks |= 3 * unit
+        return self.units[code]
 
-    def number_of(self, mask):
-        """The number of the set of a mask."""
-        if mask not in self.numbers:
-            self.numbers[mask] = len(self.masks)
-            self.masks.append(mask)
-        return self.numbers[mask]
+    def marked_codes(self, mask):
+        """(mark, code) of all that are in mask."""
+        return [(place & 1, self.codes[place >> self.block_bits]) for place in places_in(mask)]
 
-    def number_of_told(self, olds):
-        """The number of a pair's olds."""
-        mask = 0
-        for marked in olds:
-            mask |= 1 << self.place_of(marked)
-        return self.number_of(mask)
+    def lanes(self, code):
+        """For all lanes (bit, mask of the state behind) behind a code."""
+        key = code & self.track.telling
+        if key not in self.known_lanes:
+            self.known_lanes[key] = [(field & 1, self.unit_of(field >> 1)) for field in self.track.lanes(key)]
+        return self.known_lanes[key]
 
-    def told(self, number):
-        """A pair's olds."""
-        if number not in self.known_told:
-            self.known_told[number] = tuple(sorted([self.marked[place] for place in places_in(self.masks[number])]))
-        return self.known_told[number]
+    def ends(self, bad):
+        """The masks of all that end as bad, and of all that end as a number that is new's, by inputs that are bad."""
+        ended, ending_bad, ending_new = self.known_ends.get(bad, (0, 0, 0))
+        if ended < len(self.codes):
+            codes = self.codes[ended:]
+            for code, end in zip(codes, self.track.ends(codes, bad)):
+                if end == "bad":
+                    ending_bad |= 3 * self.units[code]
+                elif end == "number":
+                    ending_new |= 2 * self.units[code]
+            self.known_ends[bad] = (len(self.codes), ending_bad, ending_new)
+        return (ending_bad, ending_new)
 
-    def may_be_bad(self, number):
-        """Whether any state ends as bad."""
-        return self.masks[number] & self.ending_bad != 0
 
-    def may_be_new(self, number):
-        """Whether any state ends as a number that is new's."""
-        return self.masks[number] & self.ending_new != 0
+class OldSteps:
+    """To what sets of olds come by one standing."""
 
-    def behind(self, number, fixed):
-        """The numbers of the sets to which one comes by fixed bits, where new's bit is 0, and where it is 1."""
-        key = (number, fixed)
-        if key not in self.known_behind:
+    def __init__(self, olds, leaves, wild):
+        self.olds = olds
+        self.bases = olds.track.base_lanes(leaves)
+        self.weights = olds.track.free_weights(wild)
+        self.rows = {}
+        self.known = {}
+
+    def behind(self, mask):
+        """All to which a set comes by new's bits 0 and 1, each for all tuples of the fixed bits at once."""
+        if mask not in self.known:
             by_zero = by_one = 0
-            for place in places_in(self.masks[number]):
-                more_by_zero, more_by_one = self.step(place, fixed)
-                by_zero |= more_by_zero
-                by_one |= more_by_one
-            self.known_behind[key] = (self.number_of(by_zero), self.number_of(by_one))
-        return self.known_behind[key]
+            for mark, code in self.olds.marked_codes(mask):
+                kept_zero, kept_one, lost = self.row(code)
+                by_zero |= kept_zero if mark == 1 else lost
+                by_one |= kept_one if mark == 1 else lost
+            self.known[mask] = (by_zero, by_one)
+        return self.known[mask]
 
-    def step(self, place, fixed):
-        """The masks to which one marked state comes, where new's bit is 0, and where it is 1."""
-        key = (place, fixed)
-        if key not in self.known_steps:
-            mark, *state = self.marked[place]
+    def row(self, code):
+        """All to which a state comes: marked where new's bit is 0, marked where it is 1, and not marked."""
+        key = code & self.olds.track.telling
+        if key not in self.rows:
+            lanes = self.olds.lanes(key)
             masks = [0, 0]
-            for bit, behind, _ in self.side.moves(tuple(state), fixed):
-                kept = 1 << self.place_of((mark, *behind))
-                lost = 1 << self.place_of((0, *behind))
-                masks[bit] |= kept
-                masks[1 - bit] |= lost
-            self.known_steps[key] = (masks[0], masks[1])
-        return self.known_steps[key]
+            free = free_lanes(self.weights, key)
+            at = 0
+            for base in self.bases:
+                for more in free:
+                    bit, unit = lanes[base + more]
+                    masks[bit] |= unit << at
+                at += 2
+            zero, one = masks
+            self.rows[key] = (zero << 1 | one, one << 1 | zero, zero | one)
+        return self.rows[key]
 
-    def is_within(self, number, other):
-        """Whether all of one set are in another one."""
-        whole = self.masks[other]
-        return self.masks[number] | whole == whole
 
-    def has_within(self, numbers, other):
-        """Whether all of a set, by one of numbers, are in another one."""
-        whole = self.masks[other]
-        for number in numbers:
-            if self.masks[number] | whole == whole:
-                return True
-        return False
+def has_within(masks, whole):
+    """Whether all of one of masks are in whole."""
+    for mask in masks:
+        if mask | whole == whole:
+            return True
+    return False

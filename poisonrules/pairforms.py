@@ -1,65 +1,57 @@
-"""Of anything, whether it is a standing, letters, or a pair of a rule."""
+"""Of anything, whether it is a standing, letters, or pairs of a rule."""
 
-from poisonrules.serial import stated_things
-from poisonrules.terms import FLAGGED
 from poisonrules.tuples import is_rising
-from poisonrules.wholes import is_whole
+from poisonrules.wholes import are_wholes
 
 
-def forms_of(term):
-    """For each number of a state of term those that it may be."""
-    return [form_of(thing) for thing in stated_things(term)]
+def pairs_read(ground, pairs):
+    """All (news, olds) of pairs of anything, short, as walks keep them, or None where one of them is no pair."""
+    if not all([isinstance(news, tuple) and isinstance(olds, tuple) for news, olds in pairs]):
+        return None
+    all_news = [news for news, _ in pairs]
+    all_olds = [old for _, olds in pairs for old in olds]
+    if not all([isinstance(old, tuple) for old in all_olds]):
+        return None
+    # What is no whole number is refused ahead of what takes truths for numbers.
+    if not are_wholes([number for one in all_news + all_olds for number in one]):
+        return None
+    parts = ground.tests.parts(ground.new.code_bits) + ground.new.parts(0)
+    keys = {news: joined_parts(news, parts) for news in list({news: True for news in all_news})}
+    parts = [{0: 0, 1: 1}] + ground.old.parts(1)
+    masks = {}
+    for old in list({old: True for old in all_olds}):
+        one = joined_parts(old, parts)
+        if one is None:
+            return None
+        masks[old] = ground.olds.unit_of(one >> 1) << (one & 1)
+    if None in list(keys.values()) or not all([len(olds) < 2 or is_rising(olds) for _, olds in pairs]):
+        return None
+    return [(keys[news], sum([masks[old] for old in olds])) for news, olds in pairs]
 
 
-def form_of(thing):
-    """The numbers that thing may have in a state."""
-    if thing[0] == "num":
-        return halves_of(thing[1])
-    if thing[0] in FLAGGED:
-        return (0, 1, 2, 3)
-    return (0, 1) if thing[0] == "froze" else tuple(range(12))
+def joined_parts(numbers, parts):
+    """All that is had of numbers together, or None where they are not as many as parts, or one is none of its own."""
+    if len(numbers) != len(parts):
+        return None
+    found = [part.get(number) for number, part in zip(numbers, parts)]
+    return None if None in found else sum(found)
 
 
-def halves_of(number):
-    """number, and it halved, rounded down, as often as that tells another one."""
-    found = [number]
-    while found[-1] not in (0, -1):
-        found.append(found[-1] >> 1)
-    return tuple(found)
-
-
-def news_forms(rule):
-    """As forms_of, for the news of rule."""
-    forms = []
-    for test in rule.cond:
-        forms.extend([tuple(range(6)), *forms_of(test[1]), *forms_of(test[2])])
-    return forms + forms_of(rule.new)
-
-
-def olds_forms(rule):
-    """As forms_of, for each of a pair's olds."""
-    return [(0, 1), *forms_of(rule.old)]
-
-
-def has_forms(thing, forms):
-    """Whether thing is a tuple of whole numbers of these forms."""
-    if not isinstance(thing, tuple) or len(thing) != len(forms):
-        return False
-    return all([is_whole(number) and number in form for number, form in zip(thing, forms)])
-
-
-def are_olds(thing, forms):
-    """Whether thing is a rising tuple of what has these forms."""
-    return isinstance(thing, tuple) and all([has_forms(one, forms) for one in thing]) and is_rising(thing)
+def has_forms(numbers, forms):
+    """Whether there are as many numbers as forms, each of its form."""
+    return len(numbers) == len(forms) and all([number in form for number, form in zip(numbers, forms)])
 
 
 def is_standing(thing, many):
     """Whether thing is a standing of a rule with so many inputs."""
-    return has_forms(thing, [(0, 1, 2)] * many)
+    return isinstance(thing, tuple) and are_wholes(thing) and has_forms(thing, [(0, 1, 2)] * many)
 
 
 def are_letters(thing, many):
     """Whether thing is a tuple of one letter or more, each of so many bits."""
     if not isinstance(thing, tuple) or len(thing) == 0:
         return False
-    return all([has_forms(letter, [(0, 1)] * many) for letter in thing])
+    if not all([isinstance(letter, tuple) and len(letter) == many for letter in thing]):
+        return False
+    bits = [bit for letter in thing for bit in letter]
+    return are_wholes(bits) and all([bit in (0, 1) for bit in bits])

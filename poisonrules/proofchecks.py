@@ -1,9 +1,13 @@
 """Checks of papers for a rule and against it, whoever wrote them."""
 
-from poisonrules.pairforms import are_letters, are_olds, has_forms, is_standing, news_forms, olds_forms
+from poisonrules.grounds import Ground
+from poisonrules.letterwalks import LetterWalk, NumberedWalk
+from poisonrules.olds import has_within
+from poisonrules.pairforms import are_letters, is_standing, pairs_read
+from poisonrules.rulestandings import standings_of
 from poisonrules.terms import inputs_of
 from poisonrules.tuples import is_rising
-from poisonrules.walks import Walk, standings_of
+from poisonrules.walks import Walk
 
 
 def paper_holds(rule, thing):
@@ -11,40 +15,43 @@ def paper_holds(rule, thing):
     standings = standings_of(rule)
     if not isinstance(thing, tuple) or len(thing) != len(standings):
         return False
+    # From each beginning some letter leads on, so no set is empty.
+    if not all([isinstance(kept, tuple) and len(kept) > 0 for kept in thing]):
+        return False
+    pairs = [pair for kept in thing for pair in kept]
+    if not all([isinstance(pair, tuple) and len(pair) == 2 for pair in pairs]):
+        return False
+    # All that is of no such kind is refused ahead of all walking.
+    ground = Ground(rule)
+    short = pairs_read(ground, pairs)
+    if short is None or not all([is_rising(kept) for kept in thing]):
+        return False
     for standing, kept in zip(standings, thing):
-        if not are_pairs(kept, rule) or not is_kept(Walk(rule, standing), kept):
+        if not is_kept(Walk(ground, standing), short[:len(kept)]):
             return False
+        short = short[len(kept):]
     return True
 
 
-def are_pairs(thing, rule):
-    """Whether thing is a rising tuple of pairs of rule."""
-    if not isinstance(thing, tuple):
-        return False
-    news = news_forms(rule)
-    olds = olds_forms(rule)
-    return all([is_pair(one, news, olds) for one in thing]) and is_rising(thing)
+def is_kept(walk, pairs):
+    """Whether short pairs are a kept set."""
+    kept = {}
+    for key, olds in pairs:
+        kept.setdefault(key, []).append(olds)
+    return all_lead_on(walk, walk.ground.beginnings + pairs, kept) and False not in walk.stand(pairs)
 
 
-def is_pair(thing, news, olds):
-    """Whether thing is a pair whose numbers have these forms."""
-    return isinstance(thing, tuple) and len(thing) == 2 and has_forms(thing[0], news) and are_olds(thing[1], olds)
-
-
-def is_kept(walk, kept):
-    """Whether pairs that rise are a kept set."""
-    pairs = [walk.short(pair) for pair in kept]
-    if not all([walk.stands(pair) for pair in pairs]):
-        return False
-    by_news = {}
-    for number, olds in pairs:
-        by_news.setdefault(number, []).append(olds)
-    met = {pair: True for pair in pairs}
-    for pair in walk.beginnings() + pairs:
-        for _, behind in walk.ways(pair):
+def all_lead_on(walk, pairs, kept):
+    """Whether each letter leads from each of short pairs to news of which enough is kept."""
+    met = {}
+    telling = walk.ground.telling
+    # What leads to the same by the same letters needs but one look.
+    for key, olds in list({(key & telling, olds): True for key, olds in pairs}):
+        tested, come, marks = walk.ground.tests_behind(key), walk.old_steps.behind(olds), walk.olds.marks
+        for at, consts, bit, code, _ in walk.moves(key):
+            behind = (tested[consts] | code, come[bit] >> at & marks)
             if behind not in met:
-                number, olds = behind
-                if not walk.olds.has_within(by_news.get(number, []), olds):
+                if not has_within(kept.get(behind[0], []), behind[1]):
                     return False
                 met[behind] = True
     return True
@@ -55,10 +62,11 @@ def against_holds(rule, thing):
     if not isinstance(thing, tuple) or len(thing) != 2 or not is_standing(thing[0], len(inputs_of(rule.old))):
         return False
     standing, letters = thing
-    walk = Walk(rule, standing)
-    if not are_letters(letters, walk.many_bits()):
+    walk = LetterWalk(rule, standing)
+    if not are_letters(letters, walk.letter_bits()):
         return False
-    reached = walk.beginnings()
+    numbered = NumberedWalk(walk)
+    reached = [numbered.short(pair) for pair in walk.first_pairs()]
     for letter in letters:
-        reached = list({walk.by_letter(pair, letter): True for pair in reached})
-    return not all([walk.stands(pair) for pair in reached])
+        reached = list({numbered.come_by(pair, letter): True for pair in reached})
+    return not all([walk.stands(numbered.told(pair)) for pair in reached])

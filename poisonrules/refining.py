@@ -3,7 +3,7 @@
 from poisonrules.kinds import BAD, FAULT
 from poisonrules.running import are_let, bad_places, outcomes_of, spoilt
 from poisonrules.standings import program_standings, runs_by, worths_at
-from poisonrules.wholes import is_whole
+from poisonrules.wholes import are_wholes
 
 
 def refined(one, other):
@@ -36,14 +36,11 @@ def unlet_masks(lets, told):
 
 def refined_holds(one, other, thing):
     """Whether thing is (worths, outcome) by which other's outcomes are not let by one's."""
-    if not isinstance(thing, tuple) or len(thing) != 2 or not are_wholes(thing[0]) or not are_wholes(thing[1]):
+    if not isinstance(thing, tuple) or len(thing) != 2 or not all([isinstance(one, tuple) for one in thing]):
         return False
     worths, outcome = thing
+    if not are_wholes(worths + outcome):
+        return False
     if len(worths) != len(one.inputs) or not all([BAD <= worth < 1 << one.width for worth in worths]):
         return False
     return outcome in outcomes_of(other, worths) and not are_let((outcome,), outcomes_of(one, worths))
-
-
-def are_wholes(thing):
-    """Whether thing is a tuple of whole numbers."""
-    return isinstance(thing, tuple) and all([is_whole(one) for one in thing])

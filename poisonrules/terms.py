@@ -90,23 +90,30 @@ def things_of(term):
     while waiting:
         one = waiting.pop()
         found.append(one)
-        waiting.extend(parts_of(one)[::-1])
+        head = one[0]
+        if head in LEAVES:
+            continue
+        if head == "choice":
+            waiting.extend((one[3], one[2], one[1][2], one[1][1]))
+        else:
+            # What stands behind the first word, or behind the flags, from the last part on.
+            waiting.extend(one[:1 if head in FLAGGED else 0:-1])
     return tuple(found)
 
 
 def inputs_of(term):
     """The names of term's inputs, rising."""
-    return leaf_words(term, "look")
+    return words_among(things_of(term), "look")
 
 
 def consts_of(term):
     """The names of term's constants, rising."""
-    return leaf_words(term, "const")
+    return words_among(things_of(term), "const")
 
 
-def leaf_words(term, head):
-    """What stands behind head in term, rising, each once."""
-    return tuple(sorted({thing[1] for thing in things_of(term) if thing[0] == head}))
+def words_among(things, head):
+    """What stands behind head among things, rising, each once."""
+    return tuple(sorted({thing[1] for thing in things if thing[0] == head}))
 
 
 def is_test(thing):

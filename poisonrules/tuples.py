@@ -9,6 +9,14 @@ def tuples_of(rows):
     return found
 
 
+def bit_tuples(many):
+    """All tuples of so many bits, rising."""
+    if many < 2:
+        return [(0,), (1,)] if many == 1 else [()]
+    ends = bit_tuples(many - many // 2)
+    return [one + end for one in bit_tuples(many // 2) for end in ends]
+
+
 def is_rising(things):
     """Whether things that can be compared rise, each once."""
     return all([one < other for one, other in zip(things, things[1:])])

@@ -1,56 +1,53 @@
 """Checks of the papers of machines, whoever wrote them."""
 
+from poisonrules.grounds import Ground
 from poisonrules.machines import is_machine, rooms_ahead
-from poisonrules.pairforms import are_olds, has_forms, is_standing, news_forms, olds_forms
+from poisonrules.olds import has_within
+from poisonrules.pairforms import is_standing, pairs_read
+from poisonrules.placedwalks import PlacedWalk
 from poisonrules.rules import Rule
-from poisonrules.terms import inputs_of
+from poisonrules.rulestandings import standings_of
 from poisonrules.tuples import is_rising
-from poisonrules.walks import Walk, standings_of
 from poisonrules.wholes import is_whole
 
 
 def weakest_holds(rule, machine, thing):
     """Whether machine is one of rule, and thing its paper, so that it is the weakest."""
-    bare = Rule(rule.name, rule.old, rule.new)
     if not is_machine(rule, machine) or not isinstance(thing, tuple) or len(thing) != 2:
         return False
-    if not all([are_pairs_in_rooms(part, bare, len(machine)) for part in thing]):
+    ground = Ground(Rule(rule.name, rule.old, rule.new))
+    many_rooms = len(machine)
+    if not all([are_in_rooms(part, many_rooms, len(ground.inputs)) for part in thing]):
         return False
-    walks = {standing: Walk(bare, standing) for standing in standings_of(bare)}
-    keeps, shows = [[(room, standing, short_place(walks[standing], news, olds)) for room, standing, news, olds in part]
-                    for part in thing]
-    return are_keeps(machine, walks, keeps) and are_shows(machine, walks, shows)
+    keeps, shows = thing
+    short = pairs_read(ground, [one[2:] for one in keeps + shows])
+    if short is None or not is_rising(keeps) or not is_rising(shows):
+        return False
+    walks = {standing: PlacedWalk(ground, standing) for standing in standings_of(rule)}
+    placed = [(room, standing, walks[standing].place_of(pair))
+              for (room, standing, _, _), pair in zip(keeps + shows, short)]
+    return are_keeps(machine, walks, placed[:len(keeps)]) and are_shows(machine, walks, placed[len(keeps):])
 
 
-def short_place(walk, news, olds):
-    """The place of a pair."""
-    return walk.place_of(walk.short((news, olds)))
-
-
-def are_pairs_in_rooms(thing, rule, many_rooms):
-    """Whether thing is a rising tuple of (room, standing, news, olds) of a rule without tests."""
+def are_in_rooms(thing, many_rooms, many_inputs):
+    """Whether thing is a tuple of (room, standing, and two things more), each room one of so many but 0."""
     if not isinstance(thing, tuple):
         return False
-    many_inputs = len(inputs_of(rule.old))
-    news = news_forms(rule)
-    olds = olds_forms(rule)
-    return all([is_pair_in_room(one, many_rooms, many_inputs, news, olds) for one in thing]) and is_rising(thing)
-
-
-def is_pair_in_room(thing, many_rooms, many_inputs, news, olds):
-    """Whether thing is (room, standing, news, olds), the room one of so many but 0, the numbers of these forms."""
-    if not isinstance(thing, tuple) or len(thing) != 4 or not is_whole(thing[0]) or not 0 < thing[0] < many_rooms:
-        return False
-    return is_standing(thing[1], many_inputs) and has_forms(thing[2], news) and are_olds(thing[3], olds)
+    for one in thing:
+        if not isinstance(one, tuple) or len(one) != 4 or not is_whole(one[0]) or not 0 < one[0] < many_rooms:
+            return False
+        if not is_standing(one[1], many_inputs):
+            return False
+    return True
 
 
 def all_beginnings(walks):
     """(room 0, standing, place) of each beginning by each standing."""
-    return [(0, standing, walk.place_of(pair)) for standing, walk in walks.items() for pair in walk.beginnings()]
+    return [(0, standing, walk.place_of(pair)) for standing, walk in walks.items() for pair in walk.ground.beginnings]
 
 
 def ways_from(machine, walks, room, standing, place):
-    """(number of the constants' bits, room behind, number of news, number of olds) for all letters."""
+    """(number of the constants' bits, room behind, key of news, mask of olds) for all letters."""
     walk = walks[standing]
     rows = walk.const_ways(place)
     return [(bits, behind, *walk.pairs[one])
@@ -61,14 +58,13 @@ def are_keeps(machine, walks, keeps):
     """Whether what a room that lets keeps stands, and all that comes of beginnings and keeps is kept."""
     kept = {}
     for room, standing, place in keeps:
-        number, olds = walks[standing].pairs[place]
-        kept.setdefault((room, standing, number), []).append(olds)
+        key, olds = walks[standing].pairs[place]
+        kept.setdefault((room, standing, key), []).append(olds)
     for room, standing, place in all_beginnings(walks) + keeps:
-        walk = walks[standing]
-        if machine[room][0] and not walk.place_stands(place):
+        if machine[room][0] and not walks[standing].place_stands(place):
             return False
-        for _, behind, number, olds in ways_from(machine, walks, room, standing, place):
-            if not walk.olds.has_within(kept.get((behind, standing, number), []), olds):
+        for _, behind, key, olds in ways_from(machine, walks, room, standing, place):
+            if not has_within(kept.get((behind, standing, key), []), olds):
                 return False
     return True
 
@@ -80,13 +76,12 @@ def are_shows(machine, walks, shows):
         return False
     come = {}
     for room, standing, place in all_beginnings(walks) + shows:
-        for bits, _, number, olds in ways_from(machine, walks, room, standing, place):
-            come.setdefault((room, bits, standing, number), []).append(olds)
+        for bits, _, key, olds in ways_from(machine, walks, room, standing, place):
+            come.setdefault((room, bits, standing, key), []).append(olds)
     ahead = rooms_ahead(machine)
     for room, standing, place in shows:
-        walk = walks[standing]
-        number, olds = walk.pairs[place]
+        key, olds = walks[standing].pairs[place]
         for before, bits in ahead[room]:
-            if not walk.olds.has_within(come.get((before, bits, standing, number), []), olds):
+            if not has_within(come.get((before, bits, standing, key), []), olds):
                 return False
     return True

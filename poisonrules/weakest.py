@@ -1,11 +1,13 @@
 """The weakest machine of a serial rule, with its paper."""
 
 from poisonrules.errors import TooMany
+from poisonrules.grounds import Ground
 from poisonrules.kinds import MOST
+from poisonrules.placedwalks import PlacedWalk
 from poisonrules.rules import Rule
+from poisonrules.rulestandings import standings_of
 from poisonrules.strands import Strand
 from poisonrules.terms import consts_of
-from poisonrules.walks import Walk, standings_of
 from poisonrules.weakpapers import keeps_of, shows_of
 
 
@@ -23,10 +25,11 @@ def weakest(rule, *, most=MOST):
 
 def strands_of(rule):
     """A strand for each beginning by each standing."""
+    ground = Ground(rule)
     found = []
     for standing in standings_of(rule):
-        walk = Walk(rule, standing)
-        found.extend([Strand(walk, standing, walk.place_of(beginning)) for beginning in walk.beginnings()])
+        walk = PlacedWalk(ground, standing)
+        found.extend([Strand(walk, standing, walk.place_of(beginning)) for beginning in ground.beginnings])
     return found
 
 

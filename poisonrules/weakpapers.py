@@ -1,6 +1,7 @@
 """The paper of a weakest machine: what it keeps where it lets, and what shows that it may not let elsewhere."""
 
 from poisonrules.machines import rooms_ahead
+from poisonrules.olds import has_within
 
 
 def dead_rooms(machine):
@@ -23,22 +24,21 @@ def keeps_of(machine, strands):
     for strand in strands:
         pairs = common_pairs(machine, dead, strand)
         # One pair for all that come with the same news is often enough.
-        if not all([strand.walk.stands(pair) for room, pair in pairs if machine[room][0]]):
+        if False in strand.walk.stand([pair for room, pair in pairs if machine[room][0]]):
             pairs = least_pairs(machine, dead, strand)
         found.extend([(room, strand.standing, *strand.walk.shown(pair)) for room, pair in pairs])
     return tuple(sorted(found))
 
 
 def ways_behind(machine, dead, walk, room, pair):
-    """(room behind, number of news, number of olds) of all to which letters lead; from dead rooms on without olds."""
-    # Where neither a room nor any behind it lets nothing needs to stand, so none are needed.
-    none = walk.olds.number_of(0)
+    """(room behind, key of news, mask of olds) of all to which letters lead; from dead rooms on without olds."""
     found = []
     for behind, row in zip(machine[room][1], walk.const_ways(walk.place_of(pair))):
         pairs = [walk.pairs[place] for place in row]
+        # Where neither a room nor any behind it lets nothing needs to stand, so no olds are needed.
         if dead[behind]:
-            pairs = list({(number, none): True for number, _ in pairs})
-        found.extend([(behind, number, olds) for number, olds in pairs])
+            pairs = list({(key, 0): True for key, _ in pairs})
+        found.extend([(behind, key, olds) for key, olds in pairs])
     return found
 
 
@@ -56,7 +56,7 @@ def common_pairs(machine, dead, strand):
         if kept[room, number] == olds:
             for behind, one, more in ways_behind(machine, dead, walk, room, (number, olds)):
                 known = kept.get((behind, one), more)
-                common = walk.olds.number_of(walk.olds.masks[known] & walk.olds.masks[more])
+                common = known & more
                 if (behind, one) not in kept or common != known:
                     kept[behind, one] = common
                     waiting.append((behind, one, common))
@@ -76,8 +76,8 @@ def least_pairs(machine, dead, strand):
         if room == 0 or pair[1] in kept[room, pair[0]]:
             for behind, number, olds in ways_behind(machine, dead, walk, room, pair):
                 some = kept.get((behind, number), [])
-                if not walk.olds.has_within(some, olds):
-                    left = [other for other in some if not walk.olds.is_within(olds, other)]
+                if not has_within(some, olds):
+                    left = [other for other in some if olds | other != other]
                     kept[behind, number] = [*left, olds]
                     waiting.append((behind, (number, olds)))
     return [(room, (number, olds)) for (room, number), some in kept.items() for olds in some]
