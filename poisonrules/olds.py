@@ -70,10 +70,10 @@ class OldSteps:
         """All to which a set comes by new's bits 0 and 1, each for all tuples of the fixed bits at once."""
         if mask not in self.known:
             by_zero = by_one = 0
-            for mark, code in self.olds.marked_codes(mask):
-                kept_zero, kept_one, lost = self.row(code)
-                by_zero |= kept_zero if mark == 1 else lost
-                by_one |= kept_one if mark == 1 else lost
+            for place in places_in(mask):
+                kept_zero, kept_one, lost = self.row(self.olds.codes[place >> self.olds.block_bits])
+                by_zero |= kept_zero if place & 1 == 1 else lost
+                by_one |= kept_one if place & 1 == 1 else lost
             self.known[mask] = (by_zero, by_one)
         return self.known[mask]
 

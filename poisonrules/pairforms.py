@@ -4,29 +4,44 @@ from poisonrules.tuples import is_rising
 from poisonrules.wholes import are_wholes
 
 
-def pairs_read(ground, pairs):
-    """All (news, olds) of pairs of anything, short, as walks keep them, or None where one of them is no pair."""
-    if not all([isinstance(news, tuple) and isinstance(olds, tuple) for news, olds in pairs]):
-        return None
-    all_news = [news for news, _ in pairs]
-    all_olds = [old for _, olds in pairs for old in olds]
-    if not all([isinstance(old, tuple) for old in all_olds]):
-        return None
-    # What is no whole number is refused ahead of what takes truths for numbers.
-    if not are_wholes([number for one in all_news + all_olds for number in one]):
-        return None
-    parts = ground.tests.parts(ground.new.code_bits) + ground.new.parts(0)
-    keys = {news: joined_parts(news, parts) for news in list({news: True for news in all_news})}
-    parts = [{0: 0, 1: 1}] + ground.old.parts(1)
-    masks = {}
-    for old in list({old: True for old in all_olds}):
-        one = joined_parts(old, parts)
-        if one is None:
+class Reader:
+    """Pairs of anything, read short, as walks keep them: what is no whole number is refused ahead of all else."""
+
+    def __init__(self, ground):
+        self.ground = ground
+        self.news_keys = {}
+        self.old_masks = {}
+
+    def learn(self, pairs):
+        """Have all news and olds of (news, olds) known; whether these all are such by themselves."""
+        if not all([isinstance(news, tuple) and isinstance(olds, tuple) for news, olds in pairs]):
+            return False
+        all_news = [news for news, _ in pairs]
+        all_olds = [old for _, olds in pairs for old in olds]
+        if not all([isinstance(old, tuple) for old in all_olds]):
+            return False
+        # What is known is known of whole numbers alone, as truths would be taken for them.
+        if not are_wholes([number for one in all_news + all_olds for number in one]):
+            return False
+        ground = self.ground
+        parts = ground.tests.parts(ground.new.code_bits) + ground.new.parts(0)
+        for news in list({one: True for one in all_news}):
+            self.news_keys[news] = joined_parts(news, parts)
+        parts = [{0: 0, 1: 1}] + ground.old.parts(1)
+        for old in list({one: True for one in all_olds}):
+            marked = joined_parts(old, parts)
+            if marked is None:
+                return False
+            self.old_masks[old] = ground.olds.unit_of(marked >> 1) << (marked & 1)
+        return None not in list(self.news_keys.values())
+
+    def short(self, pairs):
+        """Pairs whose news and olds are known, short, or None where olds of one do not rise."""
+        if not all([len(olds) < 2 or is_rising(olds) for _, olds in pairs]):
             return None
-        masks[old] = ground.olds.unit_of(one >> 1) << (one & 1)
-    if None in list(keys.values()) or not all([len(olds) < 2 or is_rising(olds) for _, olds in pairs]):
-        return None
-    return [(keys[news], sum([masks[old] for old in olds])) for news, olds in pairs]
+        masks = self.old_masks
+        return [(self.news_keys[news], masks[olds[0]] if len(olds) == 1 else sum([masks[one] for one in olds]))
+                for news, olds in pairs]
 
 
 def joined_parts(numbers, parts):

@@ -3,7 +3,7 @@
 from poisonrules.grounds import Ground
 from poisonrules.letterwalks import LetterWalk, NumberedWalk
 from poisonrules.olds import has_within
-from poisonrules.pairforms import are_letters, is_standing, pairs_read
+from poisonrules.pairforms import Reader, are_letters, is_standing
 from poisonrules.rulestandings import standings_of
 from poisonrules.terms import inputs_of
 from poisonrules.tuples import is_rising
@@ -23,13 +23,13 @@ def paper_holds(rule, thing):
         return False
     # All that is of no such kind is refused ahead of all walking.
     ground = Ground(rule)
-    short = pairs_read(ground, pairs)
-    if short is None or not all([is_rising(kept) for kept in thing]):
+    reader = Reader(ground)
+    if not reader.learn(pairs):
         return False
     for standing, kept in zip(standings, thing):
-        if not is_kept(Walk(ground, standing), short[:len(kept)]):
+        short = reader.short(kept)
+        if short is None or not is_rising(kept) or not is_kept(Walk(ground, standing), short):
             return False
-        short = short[len(kept):]
     return True
 
 
