@@ -45,9 +45,38 @@ class LetterWalk:
 
     def come_by(self, pair, letter):
         """The pair to which pair comes by letter."""
+        return self.come(pair, self.prepared(letter))
+
+    def led(self, letters):
+        """The pairs to which letters lead from all beginnings; each step is worked out but once."""
+        numbers = {}
+        row = [numbers.setdefault(letter, len(numbers)) for letter in letters]
+        unlike = [self.prepared(letter) for letter in list(numbers)]
+        pairs = []
+        places = {}
+        steps = {}
+        ends = []
+        for pair in self.first_pairs():
+            at = place_among(pair, pairs, places)
+            for number in row:
+                key = (at, number)
+                if key not in steps:
+                    steps[key] = place_among(self.come(pairs[at], unlike[number]), pairs, places)
+                at = steps[key]
+            ends.append(pairs[at])
+        return ends
+
+    def prepared(self, letter):
+        """(letter, its fixed bits, old's masks by these, what is known of old's steps by these, at first nothing)."""
         bits = self.fixed_bits(letter)
-        bit, behind = self.news_behind(pair[0], bits, letter)
-        return (behind, self.olds_behind(pair[1], bits, bit))
+        return (letter, bits, drawn_bits(self.old.drawn, bits, self.masks, self.ones), {})
+
+    def come(self, pair, prepared):
+        """The pair to which pair comes by a letter that is prepared."""
+        news, olds = pair
+        letter, bits, masks, known = prepared
+        bit, behind = self.news_behind(news, bits, letter)
+        return (behind, self.olds_behind(olds, masks, bit, known))
 
     def fixed_bits(self, letter):
         """The bits by looks and consts of all that have one and the same wherever they stand."""
@@ -65,16 +94,14 @@ class LetterWalk:
         _, tested = self.tests.step([bits[const] for const in self.tests.drawn], news[:many])
         return (bit, tested + state)
 
-    def olds_behind(self, olds, bits, new_bit):
-        """All olds to which olds come by fixed bits and new's bit."""
-        drawn = drawn_bits(self.old.drawn, bits, self.masks, self.ones)
-        known = {}
+    def olds_behind(self, olds, masks, new_bit, known):
+        """All olds to which olds come by old's masks and new's bit; known has what came by the same masks."""
         found = {}
         for mark, *numbers in olds:
             # What tells nothing on what comes next, marks too, makes no other step.
             key = tuple([number & mask for number, mask in zip(numbers, self.telling)])
             if key not in known:
-                fields = fields_behind(self.old.last_first, drawn, self.ones, numbers)
+                fields = fields_behind(self.old.last_first, masks, self.ones, numbers)
                 known[key] = [(field & 1, self.old.behind(numbers, field)) for field in self.fields_apart(fields)]
             for bit, behind in known[key]:
                 one = (1 if mark == 1 and bit == new_bit else 0, *behind)
@@ -111,44 +138,9 @@ def drawn_bits(drawn, bits, mixed, ones):
     return [ones * bits[thing] if thing[0] != "froze" and thing in bits else left.pop() for thing in drawn]
 
 
-class NumberedWalk:
-    """A LetterWalk in which news and olds are kept by numbers, and each step is worked out but once."""
-
-    def __init__(self, walk):
-        self.walk = walk
-        self.things = []
-        self.numbers = {}
-        self.known_bits = {}
-        self.known_news = {}
-        self.known_olds = {}
-
-    def number_of(self, thing):
-        """The number of news or olds."""
-        if thing not in self.numbers:
-            self.numbers[thing] = len(self.things)
-            self.things.append(thing)
-        return self.numbers[thing]
-
-    def short(self, pair):
-        """The numbers of a pair."""
-        return (self.number_of(pair[0]), self.number_of(pair[1]))
-
-    def told(self, pair):
-        """The pair of two numbers."""
-        return (self.things[pair[0]], self.things[pair[1]])
-
-    def come_by(self, pair, letter):
-        """As that of a LetterWalk, by numbers."""
-        news, olds = pair
-        if letter not in self.known_bits:
-            self.known_bits[letter] = self.walk.fixed_bits(letter)
-        key = (news, letter)
-        if key not in self.known_news:
-            bit, behind = self.walk.news_behind(self.things[news], self.known_bits[letter], letter)
-            self.known_news[key] = (bit, self.number_of(behind))
-        bit, news_behind = self.known_news[key]
-        key = (olds, bit, letter)
-        if key not in self.known_olds:
-            behind = self.walk.olds_behind(self.things[olds], self.known_bits[letter], bit)
-            self.known_olds[key] = self.number_of(behind)
-        return (news_behind, self.known_olds[key])
+def place_among(pair, pairs, places):
+    """The place of a pair among pairs, by places of them; it is put there where it is new."""
+    if pair not in places:
+        places[pair] = len(pairs)
+        pairs.append(pair)
+    return places[pair]

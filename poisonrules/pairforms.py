@@ -64,9 +64,10 @@ def is_standing(thing, many):
 
 def are_letters(thing, many):
     """Whether thing is a tuple of one letter or more, each of so many bits."""
-    if not isinstance(thing, tuple) or len(thing) == 0:
-        return False
-    if not all([isinstance(letter, tuple) and len(letter) == many for letter in thing]):
+    if not isinstance(thing, tuple) or len(thing) == 0 or not all([isinstance(letter, tuple) for letter in thing]):
         return False
     bits = [bit for letter in thing for bit in letter]
-    return are_wholes(bits) and all([bit in (0, 1) for bit in bits])
+    if not all([bit in (0, 1) and bit is not True and bit is not False for bit in bits]):
+        return False
+    # Of letters that are the same one look is enough.
+    return all([len(letter) == many for letter in list({letter: True for letter in thing})])

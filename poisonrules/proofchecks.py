@@ -1,7 +1,7 @@
 """Checks of papers for a rule and against it, whoever wrote them."""
 
 from poisonrules.grounds import Ground
-from poisonrules.letterwalks import LetterWalk, NumberedWalk
+from poisonrules.letterwalks import LetterWalk
 from poisonrules.olds import has_within
 from poisonrules.pairforms import Reader, are_letters, is_standing
 from poisonrules.rulestandings import standings_of
@@ -65,8 +65,4 @@ def against_holds(rule, thing):
     walk = LetterWalk(rule, standing)
     if not are_letters(letters, walk.letter_bits()):
         return False
-    numbered = NumberedWalk(walk)
-    reached = [numbered.short(pair) for pair in walk.first_pairs()]
-    for letter in letters:
-        reached = list({numbered.come_by(pair, letter): True for pair in reached})
-    return not all([walk.stands(numbered.told(pair)) for pair in reached])
+    return not all([walk.stands(pair) for pair in walk.led(letters)])
