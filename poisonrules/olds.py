@@ -20,6 +20,7 @@ class Olds:
         # The first two places of all blocks.
         self.marks = 0
         self.known_lanes = {}
+        self.known_told = {}
         self.known_ends = {}
 
     def unit_of(self, code):
@@ -31,9 +32,12 @@ class Olds:
             self.marks |= 3 * unit
         return self.units[code]
 
-    def marked_codes(self, mask):
-        """(mark, code) of all that are in mask."""
-        return [(place & 1, self.codes[place >> self.block_bits]) for place in places_in(mask)]
+    def told(self, mask):
+        """A pair's olds by their mask."""
+        if mask not in self.known_told:
+            told = [(place & 1, self.codes[place >> self.block_bits]) for place in places_in(mask)]
+            self.known_told[mask] = tuple(sorted([(mark, *self.track.numbers_of(code)) for mark, code in told]))
+        return self.known_told[mask]
 
     def lanes(self, code):
         """For all lanes (bit, mask of the state behind) behind a code."""

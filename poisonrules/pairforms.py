@@ -4,44 +4,59 @@ from poisonrules.tuples import is_rising
 from poisonrules.wholes import are_wholes
 
 
+def are_kinds(pairs):
+    """Whether all of some (news, olds) are tuples, and tuples of tuples, of whole numbers."""
+    if not all([isinstance(news, tuple) and isinstance(olds, tuple) for news, olds in pairs]):
+        return False
+    rows = [news for news, _ in pairs]
+    rows.extend([old for _, olds in pairs for old in olds])
+    return all([isinstance(row, tuple) for row in rows]) and are_wholes([number for row in rows for number in row])
+
+
 class Reader:
-    """Pairs of anything, read short, as walks keep them: what is no whole number is refused ahead of all else."""
+    """Reads news and olds of whole numbers, which must not be truths, as walks keep them."""
 
     def __init__(self, ground):
-        self.ground = ground
-        self.news_keys = {}
-        self.old_masks = {}
-
-    def learn(self, pairs):
-        """Have all news and olds of (news, olds) known; whether these all are such by themselves."""
-        if not all([isinstance(news, tuple) and isinstance(olds, tuple) for news, olds in pairs]):
-            return False
-        all_news = [news for news, _ in pairs]
-        all_olds = [old for _, olds in pairs for old in olds]
-        if not all([isinstance(old, tuple) for old in all_olds]):
-            return False
-        # What is known is known of whole numbers alone, as truths would be taken for them.
-        if not are_wholes([number for one in all_news + all_olds for number in one]):
-            return False
-        ground = self.ground
-        parts = ground.tests.parts(ground.new.code_bits) + ground.new.parts(0)
-        for news in list({one: True for one in all_news}):
-            self.news_keys[news] = joined_parts(news, parts)
-        parts = [{0: 0, 1: 1}] + ground.old.parts(1)
-        for old in list({one: True for one in all_olds}):
-            marked = joined_parts(old, parts)
-            if marked is None:
-                return False
-            self.old_masks[old] = ground.olds.unit_of(marked >> 1) << (marked & 1)
-        return None not in list(self.news_keys.values())
+        self.olds = ground.olds
+        # For each number of news, and of one of olds, what a key, or twice a code and the mark, have of it.
+        self.news_parts = ground.tests.parts(ground.new.code_bits) + ground.new.parts(0)
+        self.old_parts = [{0: 0, 1: 1}] + ground.old.parts(1)
+        self.known_keys = {}
+        self.known_masks = {}
+        self.known_olds = {}
 
     def short(self, pairs):
-        """Pairs whose news and olds are known, short, or None where olds of one do not rise."""
-        if not all([len(olds) < 2 or is_rising(olds) for _, olds in pairs]):
+        """Some (news, olds), short, or None where one of them is no pair."""
+        found = []
+        for news, olds in pairs:
+            key = self.known_keys.get(news)
+            if key is None:
+                key = joined_parts(news, self.news_parts)
+                self.known_keys[news] = key
+            mask = self.known_olds.get(olds)
+            if mask is None:
+                mask = self.mask_of(olds)
+                self.known_olds[olds] = mask
+            if key is None or mask is None:
+                return None
+            found.append((key, mask))
+        return found
+
+    def mask_of(self, olds):
+        """The mask of olds, or None where they are none."""
+        if not is_rising(olds):
             return None
-        masks = self.old_masks
-        return [(self.news_keys[news], masks[olds[0]] if len(olds) == 1 else sum([masks[one] for one in olds]))
-                for news, olds in pairs]
+        mask = 0
+        for old in olds:
+            one = self.known_masks.get(old)
+            if one is None:
+                marked = joined_parts(old, self.old_parts)
+                if marked is None:
+                    return None
+                one = self.olds.unit_of(marked >> 1) << (marked & 1)
+                self.known_masks[old] = one
+            mask |= one
+        return mask
 
 
 def joined_parts(numbers, parts):

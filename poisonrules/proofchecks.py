@@ -3,7 +3,7 @@
 from poisonrules.grounds import Ground
 from poisonrules.letterwalks import LetterWalk
 from poisonrules.olds import has_within
-from poisonrules.pairforms import Reader, are_letters, is_standing
+from poisonrules.pairforms import Reader, are_kinds, are_letters, is_standing
 from poisonrules.rulestandings import standings_of
 from poisonrules.terms import inputs_of
 from poisonrules.tuples import is_rising
@@ -21,11 +21,11 @@ def paper_holds(rule, thing):
     pairs = [pair for kept in thing for pair in kept]
     if not all([isinstance(pair, tuple) and len(pair) == 2 for pair in pairs]):
         return False
-    # All that is of no such kind is refused ahead of all walking.
+    # All that is of other kinds is refused ahead of all walking.
+    if not are_kinds(pairs):
+        return False
     ground = Ground(rule)
     reader = Reader(ground)
-    if not reader.learn(pairs):
-        return False
     for standing, kept in zip(standings, thing):
         short = reader.short(kept)
         if short is None or not is_rising(kept) or not is_kept(Walk(ground, standing), short):

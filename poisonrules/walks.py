@@ -75,5 +75,4 @@ class Walk:
     def shown(self, pair):
         """A short pair as it is told."""
         key, olds = pair
-        told = [(mark, *self.ground.old.numbers_of(code)) for mark, code in self.olds.marked_codes(olds)]
-        return (self.ground.news_told(key), tuple(sorted(told)))
+        return (self.ground.news_told(key), self.olds.told(olds))

@@ -3,7 +3,7 @@
 from poisonrules.grounds import Ground
 from poisonrules.machines import is_machine, rooms_ahead
 from poisonrules.olds import has_within
-from poisonrules.pairforms import Reader, is_standing
+from poisonrules.pairforms import Reader, are_kinds, is_standing
 from poisonrules.placedwalks import PlacedWalk
 from poisonrules.rules import Rule
 from poisonrules.rulestandings import standings_of
@@ -20,9 +20,8 @@ def weakest_holds(rule, machine, thing):
     if not all([are_in_rooms(part, many_rooms, len(ground.inputs)) for part in thing]):
         return False
     keeps, shows = thing
-    reader = Reader(ground)
     pairs = [one[2:] for one in keeps + shows]
-    short = reader.short(pairs) if reader.learn(pairs) else None
+    short = Reader(ground).short(pairs) if are_kinds(pairs) else None
     if short is None or not is_rising(keeps) or not is_rising(shows):
         return False
     walks = {standing: PlacedWalk(ground, standing) for standing in standings_of(rule)}
