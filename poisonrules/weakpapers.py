@@ -99,12 +99,12 @@ class Shows:
         self.ahead = rooms_ahead(machine)
         self.strands = strands
         self.set_numbers = keys
-        self.chosen = {}
+        self.taken = {}
 
     def refute(self, room):
         """Have a pair in room that does not stand."""
         for at, strand in enumerate(self.strands):
-            if not all([strand.walk.place_stands(place) for place in self.chosen.get((room, at), {})]):
+            if not all([strand.walk.place_stands(place) for place in self.taken.get((room, at), {})]):
                 return
         for at, strand in enumerate(self.strands):
             places = [place for place in self.members(room, at) if not strand.walk.place_stands(place)]
@@ -121,7 +121,7 @@ class Shows:
         waiting = [(room, place)]
         while waiting:
             one, needed = waiting.pop()
-            places = self.chosen.setdefault((one, at), {})
+            places = self.taken.setdefault((one, at), {})
             if needed not in places:
                 places[needed] = True
                 waiting.extend([(before, self.place_ahead(before, at, needed, bits))
@@ -132,13 +132,13 @@ class Shows:
         members = self.members(room, at)
         ahead = self.strands[at].walk.places_ahead(place, bits)
         some = [before for before in ahead if is_among(before, members)]
-        chosen = self.chosen.get((room, at), {})
+        chosen = self.taken.get((room, at), {})
         return ([before for before in some if before in chosen] + some)[0]
 
     def told(self):
         """All that was chosen, rising."""
         found = []
-        for (room, at), places in self.chosen.items():
+        for (room, at), places in self.taken.items():
             standing, walk = self.strands[at].standing, self.strands[at].walk
             found.extend([(room, standing, *walk.shown(walk.pairs[place])) for place in places])
         return tuple(sorted(found))

@@ -146,6 +146,22 @@ class Classes(unittest.TestCase):
             methods = {one.name for one in node.body if isinstance(one, ast.FunctionDef)}
             self.assertFalse(methods & assigned_attributes(node), where)
 
+    def test_no_name_is_a_method_here_and_an_attribute_there(self):
+        classes = [node for _, node in nodes(ast.ClassDef)]
+        methods = {one.name for node in classes for one in node.body if isinstance(one, ast.FunctionDef)}
+        self.assertEqual(methods & {name for node in classes for name in assigned_attributes(node)}, set())
+
+    def test_methods_are_not_read_off_classes(self):
+        own = {node.name for _, node in nodes(ast.ClassDef)}
+        for where, node in nodes(ast.Attribute):
+            self.assertFalse(isinstance(node.value, ast.Name) and node.value.id in own, where)
+
+    def test_what_stands_in_finally(self):
+        for where, node in nodes(ast.Try):
+            for one in node.finalbody:
+                self.assertIsInstance(one, ast.Expr, where)
+                self.assertEqual(one.value.func.attr, "append", where)
+
     def test_attributes_have_names_that_they_may_have(self):
         for where, node in nodes(ast.ClassDef):
             for name in assigned_attributes(node):
@@ -227,6 +243,16 @@ class Expressions(unittest.TestCase):
         for where, node in nodes(ast.Call):
             if isinstance(node.func, ast.Name) and node.func.id in ("any", "all", "min", "max", "sum", "sorted"):
                 self.assertFalse([one for one in node.args if isinstance(one, ast.GeneratorExp)], where)
+
+    def test_loops_do_not_change_what_they_go_over(self):
+        changing = {"append", "extend", "insert", "pop", "remove", "clear", "update", "setdefault", "sort", "reverse"}
+        for where, node in nodes(ast.For):
+            over = ast.unparse(node.iter)
+            for one in ast.walk(ast.Module(body=node.body, type_ignores=[])):
+                if isinstance(one, ast.Call) and isinstance(one.func, ast.Attribute) and one.func.attr in changing:
+                    self.assertNotEqual(ast.unparse(one.func.value), over, where)
+                if isinstance(one, ast.Subscript) and not isinstance(one.ctx, ast.Load):
+                    self.assertNotEqual(ast.unparse(one.value), over, where)
 
     def test_sets_stand_where_they_may(self):
         allowed = set()
